@@ -1,0 +1,1 @@
+"""Runsbehind: what counts on edges tell of the runs behind them."""

@@ -1,0 +1,195 @@
+"""Promise [2], for all functions of graphs.py, counts.py and paths.py: lists for tuples, names, equal results again."""
+
+import copy
+import inspect
+import unittest
+
+from runsbehind import counts, graphs, paths
+from runsbehind.errors import Known, NoBlock, NoEdge, NoGraph, NoNumber, Twice
+
+from tests import oracle
+from tests.oracle import DEEP, FORK, LADDER, ONE_EDGE, SKIP
+from tests.test_interface import COUNTS, GRAPHS, PATHS
+
+BIG = 10 ** 30
+SEVEN = (7, 3, 6, 4, 6, 4, 7, 3)
+LOT = ((("s", "a", "m", "c", "t"), 6), (("s", "a", "m", "d", "t"), 1), (("s", "b", "m", "d", "t"), 3))
+# For each GRAPH other arguments that go with it; each function is called with all that its names ask for.
+WORLDS = (
+    {"graph": FORK, "counts": SEVEN, "lot": LOT, "path": ("a", "m", "c"), "run": ("s", "b", "m", "c", "t"),
+     "one": "s", "other": "m", "block": "a", "edge": ("s", "c"), "name": "neu", "number": 3,
+     "numbers": (7, 3, 6, 4, 6, 5, 7, 3)},
+    {"graph": SKIP, "counts": (2, 3, 3), "lot": ((("s", "t"), 2), (("s", "u", "t"), 3)), "path": ("s", "u", "t"),
+     "run": ("s", "t"), "one": "t", "other": "s", "block": "u", "edge": ("s", "t"), "name": "u", "number": 1,
+     "numbers": (BIG, 0, 1)},
+    {"graph": ONE_EDGE, "counts": (BIG,), "lot": (), "path": ONE_EDGE[0], "run": ONE_EDGE[0], "one": "zz",
+     "other": "zz", "block": "zz", "edge": ONE_EDGE[0], "name": "b", "number": BIG, "numbers": (0,)},
+    {"graph": DEEP, "counts": (6, 2, 4, 7, 3, 8, 4, 7, 5), "lot": (), "path": ("a", "m", "x"),
+     "run": ("s", "a", "y", "t"), "one": "a", "other": "gone", "block": "gone", "edge": ("m", "x"), "name": "m",
+     "number": -1, "numbers": (0,) * 9},
+    {"graph": LADDER, "counts": (0,) * 16, "lot": (), "path": ("q", "b", "m"), "run": ("q", "z", "k", "y", "x", "d"),
+     "one": "q", "other": "d", "block": "q", "edge": ("q", "q"), "name": "zzzzzzzz", "number": 0,
+     "numbers": tuple(range(16))},
+)
+KNOWN = (Known, NoBlock, NoEdge, NoGraph, NoNumber, Twice)
+# These want counts of another size.
+FEW = ("fewest_runs", "most_runs")
+
+
+def functions():
+    for module, listed in ((graphs, GRAPHS), (counts, COUNTS), (paths, PATHS)):
+        for line in listed.split():
+            yield getattr(module, line.split("(")[0])
+
+
+def things_for(world):
+    """Values that are one of the things that the functions ask for, and some that are none."""
+    yield from (world["graph"], world["counts"], world["path"], world["run"], world["lot"])
+    yield from (None, (), [], True, 7, "st", oracle.nested("a", 12), ((("s", "t"), True),), (True, False))
+
+
+def calls():
+    """Each function with arguments by name, in the order in which they are shown."""
+    for world in WORLDS:
+        for function in functions():
+            asked = list(inspect.signature(function).parameters)
+            values = {name: world[name] for name in asked if name != "thing"}
+            if function.__name__ in FEW:
+                values["counts"] = counts.counts_of(world["graph"], ((world["run"], 3),))
+            if function is counts.lots_together:
+                values = {"one": world["lot"], "other": ((world["run"], BIG),)}
+            if "thing" not in asked:
+                yield function, values
+            else:
+                for thing in things_for(world):
+                    yield function, {name: values.get(name, thing) for name in asked}
+
+
+CALLS = list(calls())
+
+
+def told(function, *values, **named):
+    """What the call returns, or the error that it raises with what that keeps; with lists told from tuples."""
+    try:
+        found = function(*values, **named)
+    except KNOWN as error:
+        return type(error).__name__, repr(vars(error))
+    return repr(found)
+
+
+def changed(values, by):
+    """The arguments with lists for tuples; a thing stays what it is."""
+    return {name: worth if name == "thing" else by(worth) for name, worth in values.items()}
+
+
+def flat(value):
+    return isinstance(value, (int, str)) or value is None
+
+
+def is_tuples(value):
+    return flat(value) or isinstance(value, tuple) and all(is_tuples(part) for part in value)
+
+
+class General(unittest.TestCase):
+    def test_lists_for_tuples_and_names(self):
+        for function, values in CALLS:
+            expected = told(function, *values.values())
+            with self.subTest(function=function.__name__, values=values):
+                self.assertEqual(told(function, **values), expected)
+                self.assertEqual(told(function, **dict(reversed(values.items()))), expected)
+                for by in (oracle.as_lists, oracle.as_mixed, lambda value: oracle.as_mixed(value, 1)):
+                    self.assertEqual(told(function, *changed(values, by).values()), expected)
+                    self.assertEqual(told(function, **changed(values, by)), expected)
+                self.assertEqual(told(function, *values.values()), expected)
+
+    def test_arguments_stay_as_they_were(self):
+        for function, values in CALLS:
+            lists = {name: oracle.as_lists(worth) for name, worth in values.items()}
+            before = copy.deepcopy(lists)
+            told(function, **lists)
+            self.assertEqual(repr(lists), repr(before), function.__name__)
+
+    def test_returned_lists_belong_to_the_caller(self):
+        for function, values in CALLS:
+            expected = told(function, **values)
+            found = None
+            if not isinstance(expected, tuple):
+                found = function(**values)
+            if isinstance(found, list):
+                found.append("mine")
+                found.reverse()
+                self.assertEqual(told(function, **values), expected, function.__name__)
+
+    def test_what_is_returned_holds_no_lists_within(self):
+        for function, values in CALLS:
+            if isinstance(told(function, **values), tuple):
+                continue
+            for form in (values, changed(values, oracle.as_lists)):
+                found = function(**form)
+                parts = found if isinstance(found, list) else [found]
+                self.assertTrue(all(is_tuples(part) for part in parts), function.__name__)
+                is_list = function in (graphs.runs, paths.sure_paths, paths.greatest_sure)
+                self.assertEqual(isinstance(found, list), is_list)
+
+    def test_yes_and_no_are_bools(self):
+        for function, values in CALLS:
+            asks = function.__name__.startswith(("is_", "may_")) or function is graphs.leads
+            if asks and not isinstance(told(function, **values), tuple):
+                self.assertIn(told(function, **values), ("True", "False"))
+
+    def test_all_functions_are_called(self):
+        self.assertEqual(len({function for function, _ in CALLS}), 22 + 14 + 17)
+
+    def test_what_is_returned_may_be_passed_in_again(self):
+        for world in WORLDS:
+            graph = graphs.turned(graphs.turned(world["graph"]))
+            numbers = counts.counts_of(graph, counts.a_lot(graph, world["counts"]))
+            self.assertEqual(numbers, world["counts"])
+            for run in graphs.runs(graph):
+                self.assertEqual(graphs.nth_run(graph, graphs.number_of_run(graph, run)), run)
+                self.assertIn(graphs.number_of_run(graph, run), graphs.runs_along(graph, run))
+            for path in paths.sure_paths(graph, numbers):
+                lot = paths.lot_going(graph, numbers, path, paths.least_gone(graph, numbers, path))
+                self.assertTrue(counts.is_lot_for(graph, numbers, counts.lots_together(lot, ())))
+
+
+class FirstErrors(unittest.TestCase):
+    """Which error comes first where two could be raised, and that a call that raises one changes nothing."""
+
+    def test_order(self):
+        cases = (
+            (graphs.with_edge, (SKIP, ("s", "t")), Known(("s", "t"))),
+            (graphs.with_edge, (SKIP, ("s", "s")), NoGraph()),
+            (graphs.without_edge, (SKIP, ("t", "v")), NoEdge(("t", "v"))),
+            (graphs.without_edge, (SKIP, ("s", "u")), NoGraph()),
+            (graphs.split_edge, (SKIP, ("s", "v"), "s"), NoEdge(("s", "v"))),
+            (graphs.split_edge, (SKIP, ("s", "t"), "s"), Twice("s")),
+            (graphs.split_edge, (SKIP, ("s", "t"), "u"), Twice("u")),
+            (graphs.leads, (SKIP, "x", "y"), NoBlock("x")),
+            (graphs.between, (SKIP, "y", "x"), NoBlock("y")),
+            (graphs.how_many_ways, (SKIP, "s", "y"), NoBlock("y")),
+            (graphs.how_many_ways, (SKIP, "y", "y"), NoBlock("y")),
+            (graphs.shut, (SKIP, "x"), NoBlock("x")),
+            (graphs.shut, (SKIP, "s"), NoGraph()),
+            (graphs.nth_run, (SKIP, -BIG), NoNumber(-BIG)),
+            (graphs.nth_run, (SKIP, 2), NoNumber(2)),
+            (counts.through, (SKIP, (0, 0, 0), "x"), NoBlock("x")),
+        )
+        for function, values, error in cases:
+            for form in (values, (oracle.as_lists(values[0]),) + values[1:]):
+                before = copy.deepcopy(form)
+                with self.subTest(function=function.__name__, values=values):
+                    with self.assertRaises(type(error)) as caught:
+                        function(*form)
+                    self.assertEqual(vars(caught.exception), vars(error))
+                    self.assertEqual(form, before)
+
+    def test_errors_can_be_caught_by_their_class(self):
+        self.assertRaises(LookupError, graphs.nth_run, SKIP, 2)
+        self.assertRaises(LookupError, graphs.shut, SKIP, "x")
+        self.assertRaises(ValueError, graphs.shut, SKIP, "s")
+        self.assertRaises(ValueError, graphs.split_edge, SKIP, ("s", "t"), "u")
+
+
+if __name__ == "__main__":
+    unittest.main()

@@ -1,0 +1,80 @@
+"""Promise [19], as far as errors.py, graphs.py, counts.py and paths.py; and what [2] says of error classes."""
+
+import copy
+import inspect
+import pickle
+import unittest
+
+from runsbehind import counts, errors, graphs, paths
+
+LOOKUPS = {"NoBlock": ["block"], "NoEdge": ["edge"], "NoNumber": ["number"], "NoDay": ["day"], "NothingDone": []}
+VALUES = {"Known": ["edge"], "Twice": ["name"], "NoGraph": [], "NoCounts": [], "NoLot": [], "Unfit": [],
+          "BadText": [], "BadLine": ["number"]}
+
+GRAPHS = """is_graph(thing) is_path(graph,thing) is_run(graph,thing) blocks(graph) entry_of(graph) exit_of(graph)
+edges_to(graph,block) edges_from(graph,block) leads(graph,one,other) between(graph,one,other) in_order(graph)
+runs(graph) how_many_runs(graph) nth_run(graph,number) number_of_run(graph,run) how_many_ways(graph,one,other)
+runs_along(graph,path) with_edge(graph,edge) without_edge(graph,edge) split_edge(graph,edge,name)
+shut(graph,block) turned(graph)"""
+COUNTS = """is_counts(graph,thing) unbalanced(graph,numbers) through(graph,counts,block) total(graph,counts)
+is_lot(graph,thing) counts_of(graph,lot) goes(lot,path) lots_together(one,other) each_once(graph)
+a_lot(graph,counts) is_lot_for(graph,counts,thing) enough_runs(graph,counts) fewest_runs(graph,counts)
+most_runs(graph,counts)"""
+PATHS = """least_gone(graph,counts,path) greatest_gone(graph,counts,path) gone_just(graph,counts,path)
+is_surely_gone(graph,counts,path) may_be_gone(graph,counts,path) leaks(graph,counts,path)
+narrowest(graph,counts,path) lot_going(graph,counts,path,number) is_lot_going(graph,counts,path,number,thing)
+sure_paths(graph,counts) greatest_sure(graph,counts) longest_sure(graph,counts) runs_to_sure(graph,counts,path)
+telling_edges(graph,path) is_always_told(graph,path) sure_lot(graph,counts) left_counts(graph,counts)"""
+
+
+class Functions(unittest.TestCase):
+    def test_each_stands_in_its_file_with_its_arguments(self):
+        for module, listed in ((graphs, GRAPHS), (counts, COUNTS), (paths, PATHS)):
+            for line in listed.split():
+                name, arguments = line[:-1].split("(")
+                with self.subTest(name=name):
+                    function = getattr(module, name)
+                    self.assertTrue(inspect.isfunction(function))
+                    self.assertEqual(function.__module__, module.__name__)
+                    self.assertEqual(list(inspect.signature(function).parameters), arguments.split(","))
+                    for parameter in inspect.signature(function).parameters.values():
+                        self.assertEqual(parameter.kind, parameter.POSITIONAL_OR_KEYWORD)
+                        self.assertIs(parameter.default, parameter.empty)
+
+
+class Errors(unittest.TestCase):
+    def both(self):
+        for base, listed in ((LookupError, LOOKUPS), (ValueError, VALUES)):
+            for name, kept in listed.items():
+                yield base, getattr(errors, name), kept
+
+    def test_each_is_directly_under_its_class(self):
+        for base, error, _ in self.both():
+            with self.subTest(error=error.__name__):
+                self.assertEqual(error.__bases__, (base,))
+                self.assertEqual(error.__module__, "runsbehind.errors")
+
+    def test_each_keeps_its_values(self):
+        for _, error, kept in self.both():
+            for worth in ("x", 5, ("a", "b"), -10 ** 40, 10 ** 5000):
+                values = {name: worth for name in kept}
+                for made in (error(*values.values()), error(**values)):
+                    with self.subTest(error=error.__name__):
+                        self.assertEqual(vars(made), values)
+                        self.assertEqual(vars(copy.copy(made)), values)
+                        self.assertEqual(vars(pickle.loads(pickle.dumps(made))), values)
+
+    def test_each_takes_just_its_values(self):
+        for _, error, kept in self.both():
+            with self.subTest(error=error.__name__):
+                self.assertRaises(TypeError, error, *(["x"] * (len(kept) + 1)))
+                if kept:
+                    self.assertRaises(TypeError, error)
+
+    def test_there_are_just_these(self):
+        found = {name for name, worth in vars(errors).items() if inspect.isclass(worth)}
+        self.assertEqual(found, set(LOOKUPS) | set(VALUES))
+
+
+if __name__ == "__main__":
+    unittest.main()
