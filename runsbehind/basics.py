@@ -31,6 +31,11 @@ def is_ascending(parts):
     return all([parts[at] < parts[at + 1] for at in range(len(parts) - 1)])
 
 
+def is_set_of(known, thing):
+    """Whether thing is a set of some of these known ones, which can be compared."""
+    return isinstance(thing, tuple) and all([part in known for part in thing]) and is_ascending(thing)
+
+
 def steps(path):
     """The EDGES of a PATH, in the order in which it goes them."""
     return [(path[at], path[at + 1]) for at in range(len(path) - 1)]

@@ -110,19 +110,29 @@ def a_lot(graph, counts):
 
 def lot_along(graph, counts, path, number):
     """A LOT with these COUNTS that goes the PATH just so often, which must be possible; any such LOT if path is ()."""
+    return lot_dealt(graph, counts, lambda name, bundles, wants: put_along(name, bundles, wants, path, number))
+
+
+def lot_dealt(graph, counts, put):
+    """The LOT that comes if at each block the bundles there are dealt to the wants as put puts both in order."""
     many = dict(zip(plain(graph), counts))
     after = next_blocks(graph)
     first = entry_of(graph)
     come = {name: [] for name in after}
     come[first].append(((first,), total(graph, counts)))
     for name in in_order(graph):
-        bundles, wants = come[name], [(end, many[(name, end)]) for end in after[name]]
-        if name in path[1:-1]:
-            at = path.index(name)
-            bundles, wants = held_back(bundles, wants, path[:at + 1], path[at + 1], number)
+        bundles, wants = put(name, come[name], [(end, many[(name, end)]) for end in after[name]])
         for piece in dealt(bundles, wants):
             come[piece[0][-1]].append(piece)
     return as_lot(come[exit_of(graph)])
+
+
+def put_along(name, bundles, wants, path, number):
+    """Bundles and wants at this block, put so that the LOT goes the PATH just so often."""
+    if name not in path[1:-1]:
+        return bundles, wants
+    at = path.index(name)
+    return held_back(bundles, wants, path[:at + 1], path[at + 1], number)
 
 
 def held_back(bundles, wants, begun, end, number):

@@ -131,6 +131,19 @@ def runs(graph):
     return sorted(found)
 
 
+def all_paths(graph):
+    """The ascending list of all PATHS."""
+    after = next_blocks(graph)
+    growing = list(plain(graph))
+    found = []
+    while growing:
+        path = growing.pop()
+        found.append(path)
+        for end in after[path[-1]]:
+            growing.append(path + (end,))
+    return sorted(found)
+
+
 def how_many_runs(graph):
     """How many RUNS there are."""
     return ways_on(graph, exit_of(graph))[entry_of(graph)]

@@ -137,6 +137,168 @@ def lots_up_to(graph, most):
     return table
 
 
+def all_lots(graph, counts):
+    """All LOTS that have the COUNTS, found RUN by RUN."""
+    return sorted(lots_left(dict(zip(graph, counts)), all_runs(graph)))
+
+
+def lots_left(left, run_list):
+    if not any(left.values()):
+        return [()]
+    if not run_list:
+        return []
+    run, found = run_list[0], []
+    for number in range(min(left[edge] for edge in edges_on(run)) + 1):
+        rest = {edge: worth - number if edge in edges_on(run) else worth for edge, worth in left.items()}
+        found += [(((run, number),) if number else ()) + lot for lot in lots_left(rest, run_list[1:])]
+    return found
+
+
+def subsets(parts):
+    """All sets of these, as ascending tuples; the smaller ones first, those of one size ascending."""
+    parts = sorted(parts)
+    return [some for many in range(len(parts) + 1) for some in itertools.combinations(parts, many)]
+
+
+def is_set_of(known, thing):
+    if type(thing) is not tuple or not all(any(part == other for other in known) for part in thing):
+        return False
+    return list(thing) == sorted(set(thing))
+
+
+def is_chain(graph, thing):
+    if type(thing) is not tuple or not all(any(part == edge for edge in graph) for part in thing):
+        return False
+    pairs = closure(graph)
+    return all(one[1] == other[0] or (one[1], other[0]) in pairs for one, other in zip(thing, thing[1:]))
+
+
+def all_chains(graph):
+    """All CHAINS of the GRAPH: of the EDGES of each PATH, in their order, all choices."""
+    found = {some for path in all_paths(graph) for some in chosen_from(edges_on(path))}
+    return sorted(found)
+
+
+def chosen_from(row):
+    """All tuples of some of the parts of a row, in their order."""
+    return [some for many in range(len(row) + 1) for some in itertools.combinations(row, many)]
+
+
+def keeps(chain, shun, run):
+    gone = set(edges_on(run))
+    return set(chain) <= gone and not set(shun) & gone
+
+
+def times_kept(lot, chain, shun):
+    return sum(number for run, number in lot if keeps(chain, shun, run))
+
+
+def bars(edges, run_list):
+    return all(set(edges) & set(edges_on(run)) for run in run_list)
+
+
+def sum_of(graph, counts, edges):
+    return sum(number for edge, number in zip(graph, counts) if edge in edges)
+
+
+def surplus(graph, counts, path):
+    """The counts of the EDGES less the THROUGHs of the inner blocks, worked out EDGE by EDGE."""
+    gone = sum(sum_of(graph, counts, (edge,)) for edge in edges_on(path))
+    return gone - sum(flows_in(graph, counts, name) for name in path[1:-1])
+
+
+def as_bag(lot):
+    """The runs of a LOT, one by one."""
+    return [run for run, number in lot for _ in range(number)]
+
+
+def from_bag(bag):
+    return tuple((run, bag.count(run)) for run in sorted(set(bag)))
+
+
+def exchanges_of(lot):
+    """All other LOTS that come by one exchange, with each two runs and each block tried."""
+    bag, found = as_bag(lot), set()
+    for one, other in itertools.combinations(range(len(bag)), 2):
+        for name in set(bag[one]) & set(bag[other]):
+            here, there = bag[one].index(name), bag[other].index(name)
+            rest = [run for at, run in enumerate(bag) if at not in (one, other)]
+            crossed = [bag[one][:here] + bag[other][there:], bag[other][:there] + bag[one][here:]]
+            found.add(from_bag(rest + crossed))
+    return sorted(found - {lot})
+
+
+def distances(lot):
+    """How few exchanges lead from this LOT to each one that any lead to."""
+    far, layer = {lot: 0}, [lot]
+    while layer:
+        layer = sorted({made for known in layer for made in exchanges_of(known)} - set(far))
+        far.update({made: max(far.values()) + 1 for made in layer})
+    return far
+
+
+def rank(rows):
+    """How many of the rows are of their own, none made of others."""
+    many, left = 0, [row for row in rows if any(row)]
+    while left:
+        many, first = many + 1, left[0]
+        at = next(at for at, part in enumerate(first) if part)
+        cleared = [row if row[at] == 0 else [part * first[at] - own * row[at] for part, own in zip(row, first)]
+                   for row in left[1:]]
+        left = [row for row in cleared if any(row)]
+    return many
+
+
+def row_of_block(graph, name):
+    """What of the numbers of the EDGES a THROUGH is made of."""
+    side = 1 if name == exit_of(graph) else 0
+    return [int(edge[side] == name) for edge in graph]
+
+
+def row_of_edge(graph, edge):
+    return [int(known == edge) for known in graph]
+
+
+def rows_of(graph, counters):
+    """What is always 0 of a SWING that the COUNTERS miss."""
+    ends = (entry_of(graph), exit_of(graph))
+    inner = [[(edge[1] == name) - (edge[0] == name) for edge in graph] for name in names_of(graph) if name not in ends]
+    edges, places = counters
+    return inner + [row_of_edge(graph, edge) for edge in edges] + [row_of_block(graph, name) for name in places]
+
+
+def told(graph, counters):
+    """The sets of the EDGES and of the blocks that the COUNTERS tell, by elimination."""
+    rows = rows_of(graph, counters)
+    known = rank(rows)
+    edges = [edge for edge in graph if rank(rows + [row_of_edge(graph, edge)]) == known]
+    places = [name for name in names_of(graph) if rank(rows + [row_of_block(graph, name)]) == known]
+    return tuple(edges), tuple(places)
+
+
+def are_enough(graph, counters):
+    return rank(rows_of(graph, counters)) == len(graph)
+
+
+def is_missed_swing(graph, counters, thing):
+    if type(thing) is not tuple or len(thing) != len(graph) or not all(is_number(part) for part in thing):
+        return False
+    return any(thing) and all(sum(part * own for part, own in zip(row, thing)) == 0 for row in rows_of(graph, counters))
+
+
+def is_counters(graph, thing):
+    if type(thing) is not tuple or len(thing) != 2:
+        return False
+    return is_set_of(graph, thing[0]) and is_set_of(names_of(graph), thing[1])
+
+
+def shown(graph, counters, counts):
+    edges, places = counters
+    passed = {name: flows_out(graph, counts, name) for name in names_of(graph)}
+    passed[exit_of(graph)] = flows_in(graph, counts, exit_of(graph))
+    return tuple(sum_of(graph, counts, (edge,)) for edge in edges), tuple(passed[name] for name in places)
+
+
 def small_graphs(many):
     """All GRAPHS of just so many blocks, but for their names, whose order is not that of the EDGES."""
     names = "dbecagf"[:many]

@@ -1,17 +1,20 @@
-"""Promises [4], [5], [6]: the examples of the document, as they stand there."""
+"""Promises [4] to [10]: the examples of the document, as they stand there; and those of README.md."""
 
 import ast
+import builtins
+import doctest
 import os
 import unittest
 
-from runsbehind import counts, errors, graphs, paths
+from runsbehind import chains, counters, counts, errors, graphs, hot, lots, paths
 
-PLACE = os.path.join(os.path.dirname(os.path.abspath(__file__)), "examples.txt")
+HERE = os.path.dirname(os.path.abspath(__file__))
+PLACE = os.path.join(HERE, "examples.txt")
 
 
 def interface():
     names = {}
-    for module in (errors, graphs, counts, paths):
+    for module in (errors, graphs, counts, paths, chains, hot, lots, counters):
         names.update({name: worth for name, worth in vars(module).items() if callable(worth)})
     return names
 
@@ -34,7 +37,7 @@ class Examples(unittest.TestCase):
             with self.subTest(line=at + 1):
                 done += 1
                 self.check(line[4:], lines[at + 1], names)
-        self.assertEqual(done, 30)
+        self.assertEqual(done, 74)
 
     def check(self, source, expected, names):
         if isinstance(ast.parse(source).body[0], ast.Assign):
@@ -47,6 +50,12 @@ class Examples(unittest.TestCase):
             found = eval(source, names)
             self.assertEqual(found, ast.literal_eval(expected))
             self.assertEqual(repr(found), repr(ast.literal_eval(expected)))
+
+    def test_readme(self):
+        # What is shown last is kept as _ among the builtins, where other tests would find it.
+        self.addCleanup(vars(builtins).pop, "_", None)
+        done = doctest.testfile(os.path.join(os.path.dirname(HERE), "README.md"), module_relative=False)
+        self.assertEqual((done.failed, done.attempted > 10), (0, True))
 
 
 if __name__ == "__main__":

@@ -1,43 +1,62 @@
-"""Promise [2], for all functions of graphs.py, counts.py and paths.py: lists for tuples, names, equal results again."""
+"""Promise [2], for all functions of all files: lists for tuples, names, equal results again, new lists, errors."""
 
 import copy
 import inspect
 import unittest
 
-from runsbehind import counts, graphs, paths
-from runsbehind.errors import Known, NoBlock, NoEdge, NoGraph, NoNumber, Twice
+from runsbehind import chains, counters, counts, graphs, hot, lots, paths
+from runsbehind.errors import Known, NoBlock, NoCounts, NoEdge, NoGraph, NoLot, NoNumber, Twice, Unfit
 
 from tests import oracle
 from tests.oracle import DEEP, FORK, LADDER, ONE_EDGE, SKIP
-from tests.test_interface import COUNTS, GRAPHS, PATHS
+from tests.test_interface import LISTED
 
 BIG = 10 ** 30
 SEVEN = (7, 3, 6, 4, 6, 4, 7, 3)
-LOT = ((("s", "a", "m", "c", "t"), 6), (("s", "a", "m", "d", "t"), 1), (("s", "b", "m", "d", "t"), 3))
+AC, AD, BC, BD = [("s", one, "m", other, "t") for one in "ab" for other in "cd"]
+LOT = ((AC, 6), (AD, 1), (BD, 3))
+AMX, AMY, BMX, BMY = [("s", one, "m", other, "t") for one in "ab" for other in "xy"]
+HIGH, LOW = ("q", "b", "m", "a", "c", "d"), ("q", "z", "m", "y", "x", "d")
+MIXED = (("q", "b", "m", "y", "x", "d"), ("q", "z", "m", "a", "c", "d"))
 # For each GRAPH other arguments that go with it; each function is called with all that its names ask for.
 WORLDS = (
     {"graph": FORK, "counts": SEVEN, "lot": LOT, "path": ("a", "m", "c"), "run": ("s", "b", "m", "c", "t"),
      "one": "s", "other": "m", "block": "a", "edge": ("s", "c"), "name": "neu", "number": 3,
-     "numbers": (7, 3, 6, 4, 6, 5, 7, 3)},
+     "numbers": (7, 3, 6, 4, 6, 5, 7, 3), "chain": (("s", "a"), ("m", "c")), "shun": (("b", "m"), ("d", "t")),
+     "bar": 3, "many": 2, "counters": ((("a", "m"), ("b", "m"), ("c", "t")), ("a", "s")), "prices": SEVEN,
+     "first": (7, 3, 6), "second": (7, 10), "partial": (7, None, 6, None, None, None, None, None),
+     "pair": (((AC, 1), (AD, 1), (BC, 1)), ((AC, 2), (BD, 1))), "two": (AD, BC), "at": "m"},
     {"graph": SKIP, "counts": (2, 3, 3), "lot": ((("s", "t"), 2), (("s", "u", "t"), 3)), "path": ("s", "u", "t"),
      "run": ("s", "t"), "one": "t", "other": "s", "block": "u", "edge": ("s", "t"), "name": "u", "number": 1,
-     "numbers": (BIG, 0, 1)},
+     "numbers": (BIG, 0, 1), "chain": (), "shun": (), "bar": 1, "many": 1, "counters": ((), ("s", "u")),
+     "prices": (5, 5, 5), "first": (), "second": (BIG, BIG + 1), "partial": (None, BIG, None),
+     "pair": (((("s", "t"), 2), (("s", "u", "t"), 1)),) * 2, "two": (("s", "t"), ("s", "u", "t")), "at": "u"},
     {"graph": ONE_EDGE, "counts": (BIG,), "lot": (), "path": ONE_EDGE[0], "run": ONE_EDGE[0], "one": "zz",
-     "other": "zz", "block": "zz", "edge": ONE_EDGE[0], "name": "b", "number": BIG, "numbers": (0,)},
+     "other": "zz", "block": "zz", "edge": ONE_EDGE[0], "name": "b", "number": BIG, "numbers": (0,),
+     "chain": ONE_EDGE, "shun": (), "bar": BIG, "many": 9, "counters": (ONE_EDGE, ()), "prices": (BIG,),
+     "first": (-BIG,), "second": (), "partial": (None,), "pair": ((), ()), "two": (ONE_EDGE[0],) * 2, "at": "zz"},
     {"graph": DEEP, "counts": (6, 2, 4, 7, 3, 8, 4, 7, 5), "lot": (), "path": ("a", "m", "x"),
      "run": ("s", "a", "y", "t"), "one": "a", "other": "gone", "block": "gone", "edge": ("m", "x"), "name": "m",
-     "number": -1, "numbers": (0,) * 9},
+     "number": -1, "numbers": (0,) * 9, "chain": (("s", "a"), ("x", "t")), "shun": (("a", "y"), ("b", "m")),
+     "bar": 3, "many": 4, "counters": ((("a", "m"),), ("m", "t", "y")), "prices": (0, 1, 0, 1, 0, 1, 0, 1, 0),
+     "first": (6,), "second": (10, 12, 5), "partial": (6, None, None, None, None, None, None, 7, None),
+     "pair": (((AMX, 2), (BMY, 1)), ((AMX, 1), (AMY, 1), (BMX, 1))), "two": (AMX, BMY), "at": "x"},
     {"graph": LADDER, "counts": (0,) * 16, "lot": (), "path": ("q", "b", "m"), "run": ("q", "z", "k", "y", "x", "d"),
      "one": "q", "other": "d", "block": "q", "edge": ("q", "q"), "name": "zzzzzzzz", "number": 0,
-     "numbers": tuple(range(16))},
+     "numbers": tuple(range(16)), "chain": (("q", "b"), ("x", "d")), "shun": (("b", "m"),), "bar": 1, "many": 3,
+     "counters": ((), ()), "prices": tuple(range(16)), "first": (), "second": (), "partial": (0,) * 16,
+     "pair": (((HIGH, 3), (LOW, 3)), ((HIGH, 2), (MIXED[0], 1), (MIXED[1], 1), (LOW, 2))), "two": (HIGH, LOW),
+     "at": "m"},
 )
-KNOWN = (Known, NoBlock, NoEdge, NoGraph, NoNumber, Twice)
-# These want counts of another size.
-FEW = ("fewest_runs", "most_runs")
+KNOWN = (Known, NoBlock, NoCounts, NoEdge, NoGraph, NoLot, NoNumber, Twice, Unfit)
+# These want counts of a small TOTAL, and two LOTS that have the same ones.
+FEW = (counts.fewest_runs, counts.most_runs, lots.how_many_lots, lots.all_lots, lots.nth_lot, lots.lots_by,
+       lots.is_lots_apart)
+PAIRS = (lots.in_both, lots.how_unlike, lots.fewest_exchanges, lots.exchange_way, lots.is_exchange_way)
 
 
 def functions():
-    for module, listed in ((graphs, GRAPHS), (counts, COUNTS), (paths, PATHS)):
+    for module, listed in LISTED:
         for line in listed.split():
             yield getattr(module, line.split("(")[0])
 
@@ -45,6 +64,9 @@ def functions():
 def things_for(world):
     """Values that are one of the things that the functions ask for, and some that are none."""
     yield from (world["graph"], world["counts"], world["path"], world["run"], world["lot"])
+    yield from (world["chain"], world["shun"], world["counters"], world["pair"], world["pair"][:1], (world["graph"][0],))
+    yield counters.missed_swing(world["graph"], ((), ()))
+    yield chains.most_paper(world["graph"], world["counts"], world["chain"], world["shun"])
     yield from (None, (), [], True, 7, "st", oracle.nested("a", 12), ((("s", "t"), True),), (True, False))
 
 
@@ -54,10 +76,17 @@ def calls():
         for function in functions():
             asked = list(inspect.signature(function).parameters)
             values = {name: world[name] for name in asked if name != "thing"}
-            if function.__name__ in FEW:
-                values["counts"] = counts.counts_of(world["graph"], ((world["run"], 3),))
+            pair = dict(zip(("one", "other"), world["pair"]))
+            if function in FEW:
+                values["counts"] = counts.counts_of(world["graph"], world["pair"][0])
+            if function in PAIRS:
+                values.update(pair)
             if function is counts.lots_together:
                 values = {"one": world["lot"], "other": ((world["run"], BIG),)}
+            if function is lots.number_of_lot:
+                values["lot"] = world["pair"][1]
+            if function is lots.exchanged:
+                values = dict(zip(asked, (world["pair"][0],) + world["two"] + (world["at"],)))
             if "thing" not in asked:
                 yield function, values
             else:
@@ -128,17 +157,18 @@ class General(unittest.TestCase):
                 found = function(**form)
                 parts = found if isinstance(found, list) else [found]
                 self.assertTrue(all(is_tuples(part) for part in parts), function.__name__)
-                is_list = function in (graphs.runs, paths.sure_paths, paths.greatest_sure)
+                is_list = function in (graphs.runs, paths.sure_paths, paths.greatest_sure, hot.hot_paths, hot.hot_ends,
+                                       lots.live_runs, lots.exchanges_of, lots.all_lots)
                 self.assertEqual(isinstance(found, list), is_list)
 
     def test_yes_and_no_are_bools(self):
         for function, values in CALLS:
-            asks = function.__name__.startswith(("is_", "may_")) or function is graphs.leads
+            asks = function.__name__.startswith(("is_", "may_", "are_")) or function in (graphs.leads, chains.keeps)
             if asks and not isinstance(told(function, **values), tuple):
                 self.assertIn(told(function, **values), ("True", "False"))
 
     def test_all_functions_are_called(self):
-        self.assertEqual(len({function for function, _ in CALLS}), 22 + 14 + 17)
+        self.assertEqual(len({function for function, _ in CALLS}), 22 + 14 + 17 + 16 + 14 + 22 + 16)
 
     def test_what_is_returned_may_be_passed_in_again(self):
         for world in WORLDS:
@@ -174,6 +204,19 @@ class FirstErrors(unittest.TestCase):
             (graphs.nth_run, (SKIP, -BIG), NoNumber(-BIG)),
             (graphs.nth_run, (SKIP, 2), NoNumber(2)),
             (counts.through, (SKIP, (0, 0, 0), "x"), NoBlock("x")),
+            (chains.sure_behind, (SKIP, (0, 0, 0), ("s", "s")), NoEdge(("s", "s"))),
+            (chains.never_behind, (SKIP, (1, 1, 1), ("t", "u")), NoEdge(("t", "u"))),
+            (hot.hot_from, (SKIP, (0, 0, 0), "x"), NoBlock("x")),
+            (hot.nth_hottest, (SKIP, (0, 0, 0), -1), NoNumber(-1)),
+            (hot.room_for, (SKIP, (1, 1, 1), ("s", "u"), ("s", "t"), 2), Unfit()),
+            (lots.ways_at, (SKIP, (0, 0, 0), "x"), NoBlock("x")),
+            (lots.exchanged, (((AC, 1),), AC, BD, "x"), NoLot()),
+            (lots.exchanged, (((AC, 1),), BD, BD, "m"), NoLot()),
+            (lots.exchanged, (((AC, 1), (BD, 1)), AC, BD, "d"), NoBlock("d")),
+            (lots.nth_lot, (SKIP, (1, 1, 1), 1), NoNumber(1)),
+            (lots.nth_lot, (SKIP, (0, 0, 0), -1), NoNumber(-1)),
+            (counters.counts_told, (SKIP, ((), ("s",)), (), (-1,)), Unfit()),
+            (counters.counts_told, (SKIP, ((), ("s", "u")), (), (1, 2)), NoCounts()),
         )
         for function, values, error in cases:
             for form in (values, (oracle.as_lists(values[0]),) + values[1:]):
@@ -184,7 +227,15 @@ class FirstErrors(unittest.TestCase):
                     self.assertEqual(vars(caught.exception), vars(error))
                     self.assertEqual(form, before)
 
+    def test_bad_edges_in_lists_are_kept_as_tuples(self):
+        for function in (chains.sure_behind, chains.never_behind):
+            with self.assertRaises(NoEdge) as caught:
+                function(SKIP, [0, 0, 0], ["u", "s"])
+            self.assertEqual(repr(caught.exception.edge), repr(("u", "s")))
+
     def test_errors_can_be_caught_by_their_class(self):
+        self.assertRaises(LookupError, chains.sure_behind, SKIP, (0, 0, 0), ("t", "s"))
+        self.assertRaises(ValueError, counters.counts_told, SKIP, ((), ()), (), ())
         self.assertRaises(LookupError, graphs.nth_run, SKIP, 2)
         self.assertRaises(LookupError, graphs.shut, SKIP, "x")
         self.assertRaises(ValueError, graphs.shut, SKIP, "s")

@@ -1,11 +1,11 @@
-"""Promise [19], as far as errors.py, graphs.py, counts.py and paths.py; and what [2] says of error classes."""
+"""Promise [19], for each file that is there; and what [2] says of error classes."""
 
 import copy
 import inspect
 import pickle
 import unittest
 
-from runsbehind import counts, errors, graphs, paths
+from runsbehind import chains, counters, counts, errors, graphs, hot, lots, paths
 
 LOOKUPS = {"NoBlock": ["block"], "NoEdge": ["edge"], "NoNumber": ["number"], "NoDay": ["day"], "NothingDone": []}
 VALUES = {"Known": ["edge"], "Twice": ["name"], "NoGraph": [], "NoCounts": [], "NoLot": [], "Unfit": [],
@@ -25,11 +25,34 @@ is_surely_gone(graph,counts,path) may_be_gone(graph,counts,path) leaks(graph,cou
 narrowest(graph,counts,path) lot_going(graph,counts,path,number) is_lot_going(graph,counts,path,number,thing)
 sure_paths(graph,counts) greatest_sure(graph,counts) longest_sure(graph,counts) runs_to_sure(graph,counts,path)
 telling_edges(graph,path) is_always_told(graph,path) sure_lot(graph,counts) left_counts(graph,counts)"""
+CHAINS = """is_chain(graph,thing) is_shun(graph,chain,thing) keeps(chain,shun,run) kept_runs(graph,chain,shun)
+least_kept(graph,counts,chain,shun) most_kept(graph,counts,chain,shun) kept_lot(graph,counts,chain,shun,number)
+is_kept_lot(graph,counts,chain,shun,number,thing) most_paper(graph,counts,chain,shun)
+least_paper(graph,counts,chain,shun) is_most_paper(graph,counts,chain,shun,thing)
+is_least_paper(graph,counts,chain,shun,thing) sure_behind(graph,counts,edge) never_behind(graph,counts,edge)
+twin_edges(graph,counts) strongest_pair(graph,counts)"""
+HOT = """surplus(graph,counts,path) hot_paths(graph,counts,bar) hot_ends(graph,counts,bar) hottest(graph,counts,many)
+hot_from(graph,counts,block) nth_hottest(graph,counts,number) hot_place(graph,counts,run) goes_on(graph,counts,path)
+widest_run(graph,counts) sure_total(graph,counts) fewest_hot(graph,counts,number) hot_set(graph,counts,number)
+warmed(path,run) room_for(graph,counts,path,run,bar)"""
+LOTS = """live_edges(graph,counts) live_runs(graph,counts) ways_at(graph,counts,block) open_blocks(graph,counts)
+freedom(graph,counts) is_only_lot(graph,counts) only_lot(graph,counts) own_edges(graph,counts,run)
+lots_apart(graph,counts) is_lots_apart(graph,counts,thing) in_both(one,other) how_unlike(one,other)
+exchanged(lot,one,other,block) exchanges_of(lot) how_many_lots(graph,counts) all_lots(graph,counts)
+nth_lot(graph,counts,number) number_of_lot(graph,lot) lots_by(graph,counts,path) fewest_exchanges(graph,one,other)
+exchange_way(graph,one,other) is_exchange_way(one,other,thing)"""
+COUNTERS = """is_counters(graph,thing) shown(graph,counters,counts) are_enough(graph,counters) told_edges(graph,counters)
+told_blocks(graph,counters) missed_swing(graph,counters) is_missed_swing(graph,counters,thing)
+spare_counters(graph,counters) more_counters(graph,counters) fewest_counters(graph) least_counters(graph)
+how_many_fewest(graph) cheapest_counters(graph,prices) least_places(graph) counts_told(graph,counters,first,second)
+put_back(graph,partial)"""
+LISTED = ((graphs, GRAPHS), (counts, COUNTS), (paths, PATHS), (chains, CHAINS), (hot, HOT), (lots, LOTS),
+          (counters, COUNTERS))
 
 
 class Functions(unittest.TestCase):
     def test_each_stands_in_its_file_with_its_arguments(self):
-        for module, listed in ((graphs, GRAPHS), (counts, COUNTS), (paths, PATHS)):
+        for module, listed in LISTED:
             for line in listed.split():
                 name, arguments = line[:-1].split("(")
                 with self.subTest(name=name):

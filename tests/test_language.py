@@ -44,6 +44,20 @@ def trees():
         yield name, ast.parse(source_of(name))
 
 
+def is_plain(node):
+    """Whether what is written there is a plain value, with tuples alone in tuples."""
+    if isinstance(node, ast.Tuple):
+        return all(is_plain(part) for part in node.elts)
+    return isinstance(node, ast.Constant)
+
+
+def named_at_top(tree):
+    """All names that the file binds outside of its functions and classes, one for each time."""
+    names = [node.name for node in tree.body if hasattr(node, "name")]
+    names += [alias.name for node in tree.body if isinstance(node, ast.ImportFrom) for alias in node.names]
+    return names + [target.id for node in tree.body if isinstance(node, ast.Assign) for target in node.targets]
+
+
 def functions_of(tree):
     return [node for node in ast.walk(tree) if isinstance(node, ast.FunctionDef)]
 
@@ -102,7 +116,9 @@ class Statements(unittest.TestCase):
         for name, tree in trees():
             for at, node in enumerate(tree.body):
                 docstring = at == 0 and isinstance(node, ast.Expr) and isinstance(node.value, ast.Constant)
-                self.assertTrue(docstring or isinstance(node, (ast.ImportFrom, ast.FunctionDef, ast.ClassDef)), name)
+                value = isinstance(node, ast.Assign) and len(node.targets) == 1 and is_plain(node.value)
+                known = isinstance(node, (ast.ImportFrom, ast.FunctionDef, ast.ClassDef))
+                self.assertTrue(docstring or value or known, name)
 
     def test_imports(self):
         for name, tree in trees():
@@ -204,8 +220,7 @@ class Values(unittest.TestCase):
 class Names(unittest.TestCase):
     def test_builtins(self):
         for name, tree in trees():
-            bound = {node.name for node in tree.body if hasattr(node, "name")}
-            bound |= {alias.name for node in tree.body if isinstance(node, ast.ImportFrom) for alias in node.names}
+            bound = set(named_at_top(tree))
             for node in ast.walk(tree):
                 if isinstance(node, ast.FunctionDef):
                     bound |= set(stored_in(node))
@@ -215,8 +230,7 @@ class Names(unittest.TestCase):
 
     def test_bound_once(self):
         for name, tree in trees():
-            bound = [node.name for node in tree.body if hasattr(node, "name")]
-            bound += [alias.name for node in tree.body if isinstance(node, ast.ImportFrom) for alias in node.names]
+            bound = named_at_top(tree)
             self.assertEqual(len(bound), len(set(bound)), name)
             for function in functions_of(tree):
                 self.assertFalse(set(stored_in(function)) & (set(bound) | set(dir(builtins)) | BARRED), function.name)

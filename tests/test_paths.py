@@ -5,16 +5,10 @@ import unittest
 from runsbehind import counts, paths
 
 from tests import oracle
-from tests.oracle import DEEP, FORK, GRAPHS, LADDER, ONE_EDGE, SKIP, TWOFOLD
+from tests.oracle import DEEP, FORK, GRAPHS, LADDER, ONE_EDGE, SKIP, TWOFOLD, surplus
 from tests.test_counts import GREAT, SMALL, TABLES, WORLDS
 
 SEVEN = (7, 3, 6, 4, 6, 4, 7, 3)
-
-
-def surplus(graph, numbers, path):
-    """The counts of the EDGES less the THROUGHs of the inner blocks, worked out EDGE by EDGE."""
-    gone = sum(number for edge in oracle.edges_on(path) for known, number in zip(graph, numbers) if known == edge)
-    return gone - sum(oracle.flows_in(graph, numbers, name) for name in path[1:-1])
 
 
 def narrow(graph, numbers, path):
