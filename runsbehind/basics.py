@@ -47,3 +47,11 @@ def stands_in(path, run):
         return False
     at = run.index(path[0])
     return run[at:at + len(path)] == path
+
+
+def sets_of(parts, many):
+    """The ascending list of all sets of just so many of these parts, which are ascending."""
+    found = [()]
+    for _ in range(many):
+        found = [some + (part,) for some in found for part in parts if not some or some[-1] < part]
+    return found

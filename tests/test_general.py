@@ -4,8 +4,8 @@ import copy
 import inspect
 import unittest
 
-from runsbehind import chains, counters, counts, graphs, hot, lots, paths
-from runsbehind.errors import Known, NoBlock, NoCounts, NoEdge, NoGraph, NoLot, NoNumber, Twice, Unfit
+from runsbehind import chains, corners, counters, counts, days, graphs, hot, lots, paths, ranges, wrong
+from runsbehind.errors import Known, NoBlock, NoCounts, NoDay, NoEdge, NoGraph, NoLot, NoNumber, Twice, Unfit
 
 from tests import oracle
 from tests.oracle import DEEP, FORK, LADDER, ONE_EDGE, SKIP
@@ -25,33 +25,56 @@ WORLDS = (
      "numbers": (7, 3, 6, 4, 6, 5, 7, 3), "chain": (("s", "a"), ("m", "c")), "shun": (("b", "m"), ("d", "t")),
      "bar": 3, "many": 2, "counters": ((("a", "m"), ("b", "m"), ("c", "t")), ("a", "s")), "prices": SEVEN,
      "first": (7, 3, 6), "second": (7, 10), "partial": (7, None, 6, None, None, None, None, None),
-     "pair": (((AC, 1), (AD, 1), (BC, 1)), ((AC, 2), (BD, 1))), "two": (AD, BC), "at": "m"},
+     "pair": (((AC, 1), (AD, 1), (BC, 1)), ((AC, 2), (BD, 1))), "two": (AD, BC), "at": "m",
+     "ranges": ((7, 9), (0, 2), (6, 6), (4, 4), (6, 6), (4, 4), (0, 10), (0, 10)), "noted": (7, 3, 6, 4, 6, 5, 7, 3),
+     "some": (("a", "m"), ("d", "t"), ("s", "a")), "days": (SEVEN, (1, 9, 2, 8, 2, 8, 1, 9), (4, 6, 5, 5, 5, 5, 4, 6)),
+     "day": 1, "paths": (("a", "m", "c"), ("b", "m", "d")), "cuts": (1, 2), "most": 2,
+     "corners": (5, 2, 1, 2, 6, 4, 7, 3), "times": 5, "known": ((("a", "m", "c"), 5), (("m", "c", "t"), 6)),
+     "corner": ("b", "m", "d"), "long": ("s", "a", "m", "c", "t")},
     {"graph": SKIP, "counts": (2, 3, 3), "lot": ((("s", "t"), 2), (("s", "u", "t"), 3)), "path": ("s", "u", "t"),
      "run": ("s", "t"), "one": "t", "other": "s", "block": "u", "edge": ("s", "t"), "name": "u", "number": 1,
      "numbers": (BIG, 0, 1), "chain": (), "shun": (), "bar": 1, "many": 1, "counters": ((), ("s", "u")),
      "prices": (5, 5, 5), "first": (), "second": (BIG, BIG + 1), "partial": (None, BIG, None),
-     "pair": (((("s", "t"), 2), (("s", "u", "t"), 1)),) * 2, "two": (("s", "t"), ("s", "u", "t")), "at": "u"},
+     "pair": (((("s", "t"), 2), (("s", "u", "t"), 1)),) * 2, "two": (("s", "t"), ("s", "u", "t")), "at": "u",
+     "ranges": ((0, BIG), (3, 5), (4, BIG)), "noted": (0, BIG, 1), "some": (("s", "u"), ("t", "u")),
+     "days": ((BIG, BIG, BIG), (0, 0, 0)), "day": 2, "paths": (), "cuts": (1,), "most": 0, "corners": (3,), "times": 3,
+     "known": ((("s", "u", "t"), 2),), "corner": ("s", "u", "t"), "long": ("s", "u", "t")},
     {"graph": ONE_EDGE, "counts": (BIG,), "lot": (), "path": ONE_EDGE[0], "run": ONE_EDGE[0], "one": "zz",
      "other": "zz", "block": "zz", "edge": ONE_EDGE[0], "name": "b", "number": BIG, "numbers": (0,),
      "chain": ONE_EDGE, "shun": (), "bar": BIG, "many": 9, "counters": (ONE_EDGE, ()), "prices": (BIG,),
-     "first": (-BIG,), "second": (), "partial": (None,), "pair": ((), ()), "two": (ONE_EDGE[0],) * 2, "at": "zz"},
+     "first": (-BIG,), "second": (), "partial": (None,), "pair": ((), ()), "two": (ONE_EDGE[0],) * 2, "at": "zz",
+     "ranges": ((0, BIG),), "noted": (BIG,), "some": ONE_EDGE, "days": ((BIG,),) * 8, "day": 7,
+     "paths": ONE_EDGE * 4, "cuts": (0, 3), "most": BIG, "corners": (), "times": BIG, "known": (), "corner": None},
     {"graph": DEEP, "counts": (6, 2, 4, 7, 3, 8, 4, 7, 5), "lot": (), "path": ("a", "m", "x"),
      "run": ("s", "a", "y", "t"), "one": "a", "other": "gone", "block": "gone", "edge": ("m", "x"), "name": "m",
      "number": -1, "numbers": (0,) * 9, "chain": (("s", "a"), ("x", "t")), "shun": (("a", "y"), ("b", "m")),
      "bar": 3, "many": 4, "counters": ((("a", "m"),), ("m", "t", "y")), "prices": (0, 1, 0, 1, 0, 1, 0, 1, 0),
      "first": (6,), "second": (10, 12, 5), "partial": (6, None, None, None, None, None, None, 7, None),
-     "pair": (((AMX, 2), (BMY, 1)), ((AMX, 1), (AMY, 1), (BMX, 1))), "two": (AMX, BMY), "at": "x"},
+     "pair": (((AMX, 2), (BMY, 1)), ((AMX, 1), (AMY, 1), (BMX, 1))), "two": (AMX, BMY), "at": "x",
+     "ranges": ((0, 1), (0, 1), (0, 1), (3, 9), (3, 9), (0, 9), (0, 9), (0, 9), (0, 9)),
+     "noted": (6, 2, 4, 7, 3, 8, 4, 7, 6), "some": (("a", "m"), ("b", "m")),
+     "days": ((6, 2, 4, 7, 3, 8, 4, 7, 5), (0,) * 9), "day": -1, "paths": (("a", "m", "x"),) * 2, "cuts": (), "most": 1,
+     "corners": (4, 2, 2, 3, 1, 7, 3, 6, 2, 4), "times": 1, "known": ((("a", "m", "x"), 7),),
+     "corner": ("b", "m", "y"), "long": ("s", "a", "m", "x")},
     {"graph": LADDER, "counts": (0,) * 16, "lot": (), "path": ("q", "b", "m"), "run": ("q", "z", "k", "y", "x", "d"),
      "one": "q", "other": "d", "block": "q", "edge": ("q", "q"), "name": "zzzzzzzz", "number": 0,
      "numbers": tuple(range(16)), "chain": (("q", "b"), ("x", "d")), "shun": (("b", "m"),), "bar": 1, "many": 3,
      "counters": ((), ()), "prices": tuple(range(16)), "first": (), "second": (), "partial": (0,) * 16,
      "pair": (((HIGH, 3), (LOW, 3)), ((HIGH, 2), (MIXED[0], 1), (MIXED[1], 1), (LOW, 2))), "two": (HIGH, LOW),
-     "at": "m"},
+     "at": "m", "ranges": ((0, BIG),) * 16, "noted": (0,) * 16, "some": (), "days": ((0,) * 16,) * 3, "day": 0,
+     "paths": (("q", "b"), ("b", "m", "a")), "cuts": (2,), "most": 3, "corners": (0,) * 24, "times": 0,
+     "known": ((("b", "m", "a"), 0),), "corner": ("b", "m", "y"), "long": ("q", "b", "m", "a", "c", "d")},
 )
-KNOWN = (Known, NoBlock, NoCounts, NoEdge, NoGraph, NoLot, NoNumber, Twice, Unfit)
+KNOWN = (Known, NoBlock, NoCounts, NoDay, NoEdge, NoGraph, NoLot, NoNumber, Twice, Unfit)
 # These want counts of a small TOTAL, and two LOTS that have the same ones.
 FEW = (counts.fewest_runs, counts.most_runs, lots.how_many_lots, lots.all_lots, lots.nth_lot, lots.lots_by,
        lots.is_lots_apart)
+# These want a corner, or a PATH of three blocks or more: there is none where there is one EDGE alone.
+LONG = (corners.least_with, corners.greatest_with, corners.lot_with, corners.is_lot_with, corners.corner_span,
+        corners.path_span, corners.widths_left, corners.best_corner)
+LISTS = (graphs.runs, paths.sure_paths, paths.greatest_sure, hot.hot_paths, hot.hot_ends, lots.live_runs,
+         lots.exchanges_of, lots.all_lots, wrong.wrong_sets)
+YES_OR_NO = (graphs.leads, chains.keeps, corners.single_with)
 PAIRS = (lots.in_both, lots.how_unlike, lots.fewest_exchanges, lots.exchange_way, lots.is_exchange_way)
 
 
@@ -65,7 +88,10 @@ def things_for(world):
     """Values that are one of the things that the functions ask for, and some that are none."""
     yield from (world["graph"], world["counts"], world["path"], world["run"], world["lot"])
     yield from (world["chain"], world["shun"], world["counters"], world["pair"], world["pair"][:1], (world["graph"][0],))
+    yield from (world["ranges"], world["noted"], world["days"], world["corners"], (world["graph"][0][1:], "in"))
     yield counters.missed_swing(world["graph"], ((), ()))
+    yield from (ranges.range_bar(world["graph"], world["ranges"]), days.day_split(world["graph"], world["counts"],
+                                                                                 world["path"], world["number"]))
     yield chains.most_paper(world["graph"], world["counts"], world["chain"], world["shun"])
     yield from (None, (), [], True, 7, "st", oracle.nested("a", 12), ((("s", "t"), True),), (True, False))
 
@@ -87,6 +113,10 @@ def calls():
                 values["lot"] = world["pair"][1]
             if function is lots.exchanged:
                 values = dict(zip(asked, (world["pair"][0],) + world["two"] + (world["at"],)))
+            if function in LONG:
+                if "long" not in world:
+                    continue
+                values.update({"path": world["long"]} if "path" in values else {})
             if "thing" not in asked:
                 yield function, values
             else:
@@ -157,18 +187,16 @@ class General(unittest.TestCase):
                 found = function(**form)
                 parts = found if isinstance(found, list) else [found]
                 self.assertTrue(all(is_tuples(part) for part in parts), function.__name__)
-                is_list = function in (graphs.runs, paths.sure_paths, paths.greatest_sure, hot.hot_paths, hot.hot_ends,
-                                       lots.live_runs, lots.exchanges_of, lots.all_lots)
-                self.assertEqual(isinstance(found, list), is_list)
+                self.assertEqual(isinstance(found, list), function in LISTS)
 
     def test_yes_and_no_are_bools(self):
         for function, values in CALLS:
-            asks = function.__name__.startswith(("is_", "may_", "are_")) or function in (graphs.leads, chains.keeps)
+            asks = function.__name__.startswith(("is_", "may_", "are_", "can_")) or function in YES_OR_NO
             if asks and not isinstance(told(function, **values), tuple):
                 self.assertIn(told(function, **values), ("True", "False"))
 
     def test_all_functions_are_called(self):
-        self.assertEqual(len({function for function, _ in CALLS}), 22 + 14 + 17 + 16 + 14 + 22 + 16)
+        self.assertEqual(len({function for function, _ in CALLS}), 22 + 14 + 17 + 16 + 14 + 22 + 16 + 14 + 15 + 17 + 15)
 
     def test_what_is_returned_may_be_passed_in_again(self):
         for world in WORLDS:
@@ -216,6 +244,16 @@ class FirstErrors(unittest.TestCase):
             (lots.nth_lot, (SKIP, (1, 1, 1), 1), NoNumber(1)),
             (lots.nth_lot, (SKIP, (0, 0, 0), -1), NoNumber(-1)),
             (counters.counts_told, (SKIP, ((), ("s",)), (), (-1,)), Unfit()),
+            (ranges.through_range, (SKIP, ((0, 9), (1, 2), (3, 4)), "x"), NoBlock("x")),
+            (ranges.through_range, (SKIP, ((0, 9), (1, 2), (3, 4)), "u"), NoCounts()),
+            (ranges.is_counts_for, (SKIP, ((0, 9), (1, 2), (3, 4)), ("s", "t"), 0, None), NoCounts()),
+            (wrong.right_range, (SKIP, (1, 2, 3), (("a", "b"), ("b", "a")), ("x", "y")), NoEdge(("a", "b"))),
+            (wrong.right_range, (SKIP, (1, 2, 3), (), ("x", "y")), NoEdge(("x", "y"))),
+            (wrong.right_range, (SKIP, (1, 2, 3), (), ("s", "t")), NoCounts()),
+            (wrong.is_put_right, (SKIP, (1, 2, 3), (("u", "s"),), None), NoEdge(("u", "s"))),
+            (wrong.is_wrong_dam, (SKIP, (1, 2, 3), (("u", "s"),), None), NoEdge(("u", "s"))),
+            (days.day_range, (SKIP, ((0, 0, 0),), ("s", "t"), 5, 1), NoDay(1)),
+            (days.kept_by, (SKIP, ((0, 0, 0),) * 3, (), (-5, 0, 1, 3)), NoDay(-5)),
             (counters.counts_told, (SKIP, ((), ("s", "u")), (), (1, 2)), NoCounts()),
         )
         for function, values, error in cases:
@@ -231,6 +269,10 @@ class FirstErrors(unittest.TestCase):
         for function in (chains.sure_behind, chains.never_behind):
             with self.assertRaises(NoEdge) as caught:
                 function(SKIP, [0, 0, 0], ["u", "s"])
+            self.assertEqual(repr(caught.exception.edge), repr(("u", "s")))
+        for some, edge in (([["u", "s"]], ["s", "t"]), ([], ["u", "s"])):
+            with self.assertRaises(NoEdge) as caught:
+                wrong.right_range(SKIP, [0, 0, 0], some, edge)
             self.assertEqual(repr(caught.exception.edge), repr(("u", "s")))
 
     def test_errors_can_be_caught_by_their_class(self):

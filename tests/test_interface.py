@@ -5,7 +5,7 @@ import inspect
 import pickle
 import unittest
 
-from runsbehind import chains, counters, counts, errors, graphs, hot, lots, paths
+from runsbehind import chains, corners, counters, counts, days, errors, graphs, hot, lots, paths, ranges, wrong
 
 LOOKUPS = {"NoBlock": ["block"], "NoEdge": ["edge"], "NoNumber": ["number"], "NoDay": ["day"], "NothingDone": []}
 VALUES = {"Known": ["edge"], "Twice": ["name"], "NoGraph": [], "NoCounts": [], "NoLot": [], "Unfit": [],
@@ -46,8 +46,28 @@ told_blocks(graph,counters) missed_swing(graph,counters) is_missed_swing(graph,c
 spare_counters(graph,counters) more_counters(graph,counters) fewest_counters(graph) least_counters(graph)
 how_many_fewest(graph) cheapest_counters(graph,prices) least_places(graph) counts_told(graph,counters,first,second)
 put_back(graph,partial)"""
+RANGES = """is_ranges(graph,thing) is_within(graph,ranges,thing) can_fit(graph,ranges) counts_within(graph,ranges)
+range_bar(graph,ranges) is_range_bar(graph,ranges,thing) sharp_ranges(graph,ranges) is_sharp(graph,ranges)
+loose_edges(graph,ranges) total_range(graph,ranges) through_range(graph,ranges,block) path_range(graph,ranges,path)
+counts_for(graph,ranges,path,number) is_counts_for(graph,ranges,path,number,thing)"""
+WRONG = """is_noted(graph,thing) misfits(graph,noted) can_be_wrong(graph,noted,some) wrong_dam(graph,noted,some)
+is_wrong_dam(graph,noted,some,thing) fewest_wrong(graph,noted) wrong_sets(graph,noted) suspects(graph,noted)
+surely_wrong(graph,noted) put_right(graph,noted,some) is_put_right(graph,noted,some,thing)
+right_range(graph,noted,some,edge) least_change(graph,noted) nearest_counts(graph,noted)
+is_nearest(graph,noted,thing)"""
+DAYS = """is_days(graph,thing) days_together(graph,days) excesses(graph,days,path) sure_by_days(graph,days,path)
+sure_by_sum(graph,days,path) hidden(graph,days,path) top_by_days(graph,days,path) top_by_sum(graph,days,path)
+top_hidden(graph,days,path) day_range(graph,days,path,number,day) fewest_days(graph,days,path,number)
+most_days(graph,days,path,number) kept_by(graph,days,paths,cuts) fewest_cuts(graph,days,paths)
+best_cuts(graph,days,paths,most) day_split(graph,counts,path,number) is_day_split(graph,counts,path,number,thing)"""
+CORNERS = """corners_in(graph) is_corners(graph,counts,thing) corners_of(graph,lot) least_corners(graph,counts)
+greatest_corners(graph,counts) how_many_corners(graph,counts) least_with(graph,counts,corners,path)
+greatest_with(graph,counts,corners,path) lot_with(graph,counts,corners,path,times)
+is_lot_with(graph,counts,corners,path,times,thing) single_with(graph,counts,corners)
+corner_span(graph,counts,known,corner) path_span(graph,counts,known,path) widths_left(graph,counts,path)
+best_corner(graph,counts,path)"""
 LISTED = ((graphs, GRAPHS), (counts, COUNTS), (paths, PATHS), (chains, CHAINS), (hot, HOT), (lots, LOTS),
-          (counters, COUNTERS))
+          (counters, COUNTERS), (ranges, RANGES), (wrong, WRONG), (days, DAYS), (corners, CORNERS))
 
 
 class Functions(unittest.TestCase):

@@ -132,6 +132,7 @@ class Statements(unittest.TestCase):
 
     def test_imports_name_the_file_that_defines_them_and_make_no_ring(self):
         defined = {"runsbehind." + name[:-3]: {node.name for node in tree.body if hasattr(node, "name")}
+                   | {node.targets[0].id for node in tree.body if isinstance(node, ast.Assign)}
                    for name, tree in trees()}
         needs = {}
         for name, tree in trees():
@@ -196,6 +197,8 @@ class Values(unittest.TestCase):
                     self.assertEqual(stored_in(function).count(word), 1)
                 for parent, node in with_parents(function):
                     if isinstance(node, ast.Name) and node.id in kept and isinstance(node.ctx, ast.Load):
+                        if called(parent) in ("sorted", "len"):
+                            continue
                         self.assertIsInstance(parent, (ast.Compare, ast.Attribute, ast.While, ast.If), name)
 
     def test_iterated_at_once(self):
