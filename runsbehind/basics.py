@@ -16,7 +16,7 @@ def is_number(thing):
 def is_name(thing):
     """Whether thing is a NAME."""
     # Only these letters count, so a test for letters of whatever alphabet would not do.
-    return isinstance(thing, str) and 1 <= len(thing) <= 8 and all("a" <= sign <= "z" for sign in thing)
+    return isinstance(thing, str) and 1 <= len(thing) <= 8 and all(["a" <= sign <= "z" for sign in thing])
 
 
 def is_edge(thing):

@@ -9,7 +9,7 @@ def is_counts(graph, thing):
     """Whether thing is COUNTS of the GRAPH."""
     if not isinstance(thing, tuple) or len(thing) != len(graph):
         return False
-    return all(is_number(part) and part >= 0 for part in thing) and unbalanced(graph, thing) == ()
+    return all([is_number(part) and part >= 0 for part in thing]) and unbalanced(graph, thing) == ()
 
 
 def sums_at(graph, numbers, side):
@@ -81,7 +81,7 @@ def counts_of(graph, lot):
 def goes(lot, path):
     """How often the LOT goes the PATH."""
     path = plain(path)
-    return sum(number for run, number in plain(lot) if stands_in(path, run))
+    return sum([number for run, number in plain(lot) if stands_in(path, run)])
 
 
 def as_lot(shares):
@@ -140,9 +140,9 @@ def held_back(bundles, wants, begun, end, number):
     carried = [bundle for bundle in bundles if bundle[0][-len(begun):] == begun]
     others = [bundle for bundle in bundles if bundle[0][-len(begun):] != begun]
     elsewhere = [want for want in wants if want[0] != end]
-    wanted = sum(want[1] for want in wants if want[0] == end)
+    wanted = sum([want[1] for want in wants if want[0] == end])
     # What of the carried ones finds no room elsewhere must go on to end, whether it is wished or not.
-    forced = sum(bundle[1] for bundle in carried) - sum(want[1] for want in elsewhere)
+    forced = sum([bundle[1] for bundle in carried]) - sum([want[1] for want in elsewhere])
     first = max(number, forced)
     return carried + others, [(end, first)] + elsewhere + [(end, wanted - first)]
 

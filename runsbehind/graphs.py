@@ -10,7 +10,7 @@ def is_graph(thing):
     """Whether thing is a GRAPH, of however many EDGES."""
     if not isinstance(thing, tuple) or not thing:
         return False
-    return all(is_edge(part) for part in thing) and is_ascending(thing) and is_joined(thing)
+    return all([is_edge(part) for part in thing]) and is_ascending(thing) and is_joined(thing)
 
 
 def is_joined(edges):
@@ -81,7 +81,7 @@ def ways_on(graph, other):
     after = next_blocks(graph)
     ways = {}
     for name in reversed(in_order(graph)):
-        ways[name] = 1 if name == other else sum(ways[end] for end in after[name])
+        ways[name] = 1 if name == other else sum([ways[end] for end in after[name]])
     return ways
 
 

@@ -1,4 +1,4 @@
-"""Promises [4] to [14]: the examples of the document, as they stand there; and those of README.md."""
+"""Promises [4] to [18]: the examples of the document, as they stand there; and those of README.md."""
 
 import ast
 import builtins
@@ -6,7 +6,8 @@ import doctest
 import os
 import unittest
 
-from runsbehind import chains, corners, counters, counts, days, errors, graphs, hot, lots, paths, ranges, wrong
+from runsbehind import asked, board, chains, corners, counters, counts, days, desk, errors, graphs, hot, lots, paths
+from runsbehind import ranges, texts, wrong
 
 HERE = os.path.dirname(os.path.abspath(__file__))
 PLACE = os.path.join(HERE, "examples.txt")
@@ -14,7 +15,8 @@ PLACE = os.path.join(HERE, "examples.txt")
 
 def interface():
     names = {}
-    for module in (errors, graphs, counts, paths, chains, hot, lots, counters, ranges, wrong, days, corners):
+    for module in (errors, graphs, counts, paths, chains, hot, lots, counters, ranges, wrong, days, corners,
+                   asked, board, texts, desk):
         names.update({name: worth for name, worth in vars(module).items() if callable(worth)})
     return names
 
@@ -37,7 +39,7 @@ class Examples(unittest.TestCase):
             with self.subTest(line=at + 1):
                 done += 1
                 self.check(line[4:], lines[at + 1], names)
-        self.assertEqual(done, 113)
+        self.assertEqual(done, 149)
 
     def check(self, source, expected, names):
         if isinstance(ast.parse(source).body[0], ast.Assign):

@@ -4,8 +4,10 @@ import copy
 import inspect
 import unittest
 
-from runsbehind import chains, corners, counters, counts, days, graphs, hot, lots, paths, ranges, wrong
-from runsbehind.errors import Known, NoBlock, NoCounts, NoDay, NoEdge, NoGraph, NoLot, NoNumber, Twice, Unfit
+from runsbehind import asked, chains, corners, counters, counts, days, desk, graphs, hot, lots, paths, ranges, texts
+from runsbehind import wrong
+from runsbehind.errors import BadLine, BadText, Known, NoBlock, NoCounts, NoDay, NoEdge, NoGraph, NoLot, NoNumber
+from runsbehind.errors import Twice, Unfit
 
 from tests import oracle
 from tests.oracle import DEEP, FORK, LADDER, ONE_EDGE, SKIP
@@ -30,7 +32,8 @@ WORLDS = (
      "some": (("a", "m"), ("d", "t"), ("s", "a")), "days": (SEVEN, (1, 9, 2, 8, 2, 8, 1, 9), (4, 6, 5, 5, 5, 5, 4, 6)),
      "day": 1, "paths": (("a", "m", "c"), ("b", "m", "d")), "cuts": (1, 2), "most": 2,
      "corners": (5, 2, 1, 2, 6, 4, 7, 3), "times": 5, "known": ((("a", "m", "c"), 5), (("m", "c", "t"), 6)),
-     "corner": ("b", "m", "d"), "long": ("s", "a", "m", "c", "t")},
+     "corner": ("b", "m", "d"), "long": ("s", "a", "m", "c", "t"), "answers": ((("a", "m", "c"), 2),),
+     "text": "ran s>a>m>c>t 3\nsure\ngraph\nleast a>c\nundo"},
     {"graph": SKIP, "counts": (2, 3, 3), "lot": ((("s", "t"), 2), (("s", "u", "t"), 3)), "path": ("s", "u", "t"),
      "run": ("s", "t"), "one": "t", "other": "s", "block": "u", "edge": ("s", "t"), "name": "u", "number": 1,
      "numbers": (BIG, 0, 1), "chain": (), "shun": (), "bar": 1, "many": 1, "counters": ((), ("s", "u")),
@@ -38,13 +41,15 @@ WORLDS = (
      "pair": (((("s", "t"), 2), (("s", "u", "t"), 1)),) * 2, "two": (("s", "t"), ("s", "u", "t")), "at": "u",
      "ranges": ((0, BIG), (3, 5), (4, BIG)), "noted": (0, BIG, 1), "some": (("s", "u"), ("t", "u")),
      "days": ((BIG, BIG, BIG), (0, 0, 0)), "day": 2, "paths": (), "cuts": (1,), "most": 0, "corners": (3,), "times": 3,
-     "known": ((("s", "u", "t"), 2),), "corner": ("s", "u", "t"), "long": ("s", "u", "t")},
+     "known": ((("s", "u", "t"), 2),), "corner": ("s", "u", "t"), "long": ("s", "u", "t"),
+     "answers": (), "text": ""},
     {"graph": ONE_EDGE, "counts": (BIG,), "lot": (), "path": ONE_EDGE[0], "run": ONE_EDGE[0], "one": "zz",
      "other": "zz", "block": "zz", "edge": ONE_EDGE[0], "name": "b", "number": BIG, "numbers": (0,),
      "chain": ONE_EDGE, "shun": (), "bar": BIG, "many": 9, "counters": (ONE_EDGE, ()), "prices": (BIG,),
      "first": (-BIG,), "second": (), "partial": (None,), "pair": ((), ()), "two": (ONE_EDGE[0],) * 2, "at": "zz",
      "ranges": ((0, BIG),), "noted": (BIG,), "some": ONE_EDGE, "days": ((BIG,),) * 8, "day": 7,
-     "paths": ONE_EDGE * 4, "cuts": (0, 3), "most": BIG, "corners": (), "times": BIG, "known": (), "corner": None},
+     "paths": ONE_EDGE * 4, "cuts": (0, 3), "most": BIG, "corners": (), "times": BIG, "known": (), "corner": None,
+     "answers": ((ONE_EDGE[0], 0),), "text": "total\nlook"},
     {"graph": DEEP, "counts": (6, 2, 4, 7, 3, 8, 4, 7, 5), "lot": (), "path": ("a", "m", "x"),
      "run": ("s", "a", "y", "t"), "one": "a", "other": "gone", "block": "gone", "edge": ("m", "x"), "name": "m",
      "number": -1, "numbers": (0,) * 9, "chain": (("s", "a"), ("x", "t")), "shun": (("a", "y"), ("b", "m")),
@@ -55,7 +60,8 @@ WORLDS = (
      "noted": (6, 2, 4, 7, 3, 8, 4, 7, 6), "some": (("a", "m"), ("b", "m")),
      "days": ((6, 2, 4, 7, 3, 8, 4, 7, 5), (0,) * 9), "day": -1, "paths": (("a", "m", "x"),) * 2, "cuts": (), "most": 1,
      "corners": (4, 2, 2, 3, 1, 7, 3, 6, 2, 4), "times": 1, "known": ((("a", "m", "x"), 7),),
-     "corner": ("b", "m", "y"), "long": ("s", "a", "m", "x")},
+     "corner": ("b", "m", "y"), "long": ("s", "a", "m", "x"), "answers": ((("a", "m", "x"), 1), (("b", "m"), 1)),
+     "text": "total\n"},
     {"graph": LADDER, "counts": (0,) * 16, "lot": (), "path": ("q", "b", "m"), "run": ("q", "z", "k", "y", "x", "d"),
      "one": "q", "other": "d", "block": "q", "edge": ("q", "q"), "name": "zzzzzzzz", "number": 0,
      "numbers": tuple(range(16)), "chain": (("q", "b"), ("x", "d")), "shun": (("b", "m"),), "bar": 1, "many": 3,
@@ -63,18 +69,25 @@ WORLDS = (
      "pair": (((HIGH, 3), (LOW, 3)), ((HIGH, 2), (MIXED[0], 1), (MIXED[1], 1), (LOW, 2))), "two": (HIGH, LOW),
      "at": "m", "ranges": ((0, BIG),) * 16, "noted": (0,) * 16, "some": (), "days": ((0,) * 16,) * 3, "day": 0,
      "paths": (("q", "b"), ("b", "m", "a")), "cuts": (2,), "most": 3, "corners": (0,) * 24, "times": 0,
-     "known": ((("b", "m", "a"), 0),), "corner": ("b", "m", "y"), "long": ("q", "b", "m", "a", "c", "d")},
+     "known": ((("b", "m", "a"), 0),), "corner": ("b", "m", "y"), "long": ("q", "b", "m", "a", "c", "d"),
+     "answers": ((("b", "m", "a"), 3), (("m", "a", "c"), 3)), "text": "counts\nonly\nsplit q>b neu\ncounts\ndeeds"},
 )
-KNOWN = (Known, NoBlock, NoCounts, NoDay, NoEdge, NoGraph, NoLot, NoNumber, Twice, Unfit)
+KNOWN = (BadLine, BadText, Known, NoBlock, NoCounts, NoDay, NoEdge, NoGraph, NoLot, NoNumber, Twice, Unfit)
 # These want counts of a small TOTAL, and two LOTS that have the same ones.
 FEW = (counts.fewest_runs, counts.most_runs, lots.how_many_lots, lots.all_lots, lots.nth_lot, lots.lots_by,
-       lots.is_lots_apart)
+       lots.is_lots_apart, asked.lot_told, asked.told_back, asked.lots_left, asked.parts_by, asked.best_ask,
+       asked.fewest_asks)
 # These want a corner, or a PATH of three blocks or more: there is none where there is one EDGE alone.
 LONG = (corners.least_with, corners.greatest_with, corners.lot_with, corners.is_lot_with, corners.corner_span,
         corners.path_span, corners.widths_left, corners.best_corner)
 LISTS = (graphs.runs, paths.sure_paths, paths.greatest_sure, hot.hot_paths, hot.hot_ends, lots.live_runs,
-         lots.exchanges_of, lots.all_lots, wrong.wrong_sets)
-YES_OR_NO = (graphs.leads, chains.keeps, corners.single_with)
+         lots.exchanges_of, lots.all_lots, wrong.wrong_sets, asked.lots_left, desk.replies)
+YES_OR_NO = (graphs.leads, chains.keeps, corners.single_with, asked.tells_all)
+# What is read is what is written of these, or something else.
+READ = {texts.graph_in: lambda world: texts.graph_text(world["graph"]),
+        texts.path_in: lambda world: texts.path_text(world["path"]),
+        texts.counts_in: lambda world: texts.counts_text(world["counts"]),
+        texts.lot_in: lambda world: texts.lot_text(world["lot"])}
 PAIRS = (lots.in_both, lots.how_unlike, lots.fewest_exchanges, lots.exchange_way, lots.is_exchange_way)
 
 
@@ -93,15 +106,20 @@ def things_for(world):
     yield from (ranges.range_bar(world["graph"], world["ranges"]), days.day_split(world["graph"], world["counts"],
                                                                                  world["path"], world["number"]))
     yield chains.most_paper(world["graph"], world["counts"], world["chain"], world["shun"])
+    yield from (asked.telling_paths(world["graph"]), asked.parting_lots(world["graph"], ()), "total", "ran s>t 5")
     yield from (None, (), [], True, 7, "st", oracle.nested("a", 12), ((("s", "t"), True),), (True, False))
 
 
 def calls():
     """Each function with arguments by name, in the order in which they are shown."""
     for world in WORLDS:
+        world["asker"] = lambda path, lot=world["pair"][0]: oracle.goes(lot, path)
         for function in functions():
-            asked = list(inspect.signature(function).parameters)
-            values = {name: world[name] for name in asked if name != "thing"}
+            names = list(inspect.signature(function).parameters)
+            values = {name: world[name] for name in names if name != "thing"}
+            if function in READ:
+                yield function, values
+                values = {"text": READ[function](world)}
             pair = dict(zip(("one", "other"), world["pair"]))
             if function in FEW:
                 values["counts"] = counts.counts_of(world["graph"], world["pair"][0])
@@ -112,16 +130,16 @@ def calls():
             if function is lots.number_of_lot:
                 values["lot"] = world["pair"][1]
             if function is lots.exchanged:
-                values = dict(zip(asked, (world["pair"][0],) + world["two"] + (world["at"],)))
+                values = dict(zip(names, (world["pair"][0],) + world["two"] + (world["at"],)))
             if function in LONG:
                 if "long" not in world:
                     continue
                 values.update({"path": world["long"]} if "path" in values else {})
-            if "thing" not in asked:
+            if "thing" not in names:
                 yield function, values
             else:
                 for thing in things_for(world):
-                    yield function, {name: values.get(name, thing) for name in asked}
+                    yield function, {name: values.get(name, thing) for name in names}
 
 
 CALLS = list(calls())
@@ -196,7 +214,8 @@ class General(unittest.TestCase):
                 self.assertIn(told(function, **values), ("True", "False"))
 
     def test_all_functions_are_called(self):
-        self.assertEqual(len({function for function, _ in CALLS}), 22 + 14 + 17 + 16 + 14 + 22 + 16 + 14 + 15 + 17 + 15)
+        self.assertEqual(len({function for function, _ in CALLS}), 22 + 14 + 17 + 16 + 14 + 22 + 16 + 14 + 15 + 17 + 15
+                         + 12 + 8 + 2)
 
     def test_what_is_returned_may_be_passed_in_again(self):
         for world in WORLDS:
@@ -254,6 +273,13 @@ class FirstErrors(unittest.TestCase):
             (wrong.is_wrong_dam, (SKIP, (1, 2, 3), (("u", "s"),), None), NoEdge(("u", "s"))),
             (days.day_range, (SKIP, ((0, 0, 0),), ("s", "t"), 5, 1), NoDay(1)),
             (days.kept_by, (SKIP, ((0, 0, 0),) * 3, (), (-5, 0, 1, 3)), NoDay(-5)),
+            (asked.lot_told, (FORK, SEVEN, ((("m", "c"), 100),)), Unfit()),
+            (asked.lot_told, (FORK, SEVEN, ((("a", "m", "c"), 5), (("m", "c"), 100))), NoLot()),
+            (asked.lot_told, (SKIP, (0, 1, 1), ((("s", "t"), 1),)), NoLot()),
+            (desk.replies, (FORK, "drop m>c\nlook\n"), BadLine(1)),
+            (desk.replies, (FORK, "\n"), BadLine(0)),
+            (texts.graph_in, ("t>s, s>t",), BadText()),
+            (texts.lot_in, ("1 s>t; 1 s",), BadText()),
             (counters.counts_told, (SKIP, ((), ("s", "u")), (), (1, 2)), NoCounts()),
         )
         for function, values, error in cases:

@@ -5,7 +5,8 @@ import inspect
 import pickle
 import unittest
 
-from runsbehind import chains, corners, counters, counts, days, errors, graphs, hot, lots, paths, ranges, wrong
+from runsbehind import asked, chains, corners, counters, counts, days, desk, errors, graphs, hot, lots, paths, ranges
+from runsbehind import texts, wrong
 
 LOOKUPS = {"NoBlock": ["block"], "NoEdge": ["edge"], "NoNumber": ["number"], "NoDay": ["day"], "NothingDone": []}
 VALUES = {"Known": ["edge"], "Twice": ["name"], "NoGraph": [], "NoCounts": [], "NoLot": [], "Unfit": [],
@@ -66,8 +67,16 @@ greatest_with(graph,counts,corners,path) lot_with(graph,counts,corners,path,time
 is_lot_with(graph,counts,corners,path,times,thing) single_with(graph,counts,corners)
 corner_span(graph,counts,known,corner) path_span(graph,counts,known,path) widths_left(graph,counts,path)
 best_corner(graph,counts,path)"""
+ASKED = """tells_all(graph,paths) fewest_telling(graph) telling_paths(graph) is_telling_paths(graph,thing)
+parting_lots(graph,paths) is_parting_lots(graph,paths,thing) lot_told(graph,counts,answers)
+told_back(graph,counts,asker) lots_left(graph,counts,answers) parts_by(graph,counts,answers,path)
+best_ask(graph,counts,answers) fewest_asks(graph,counts,answers)"""
+TEXTS = """graph_text(graph) path_text(path) counts_text(counts) lot_text(lot) graph_in(text) path_in(text) counts_in(text)
+lot_in(text)"""
+DESK = """is_request(thing) replies(graph,text)"""
 LISTED = ((graphs, GRAPHS), (counts, COUNTS), (paths, PATHS), (chains, CHAINS), (hot, HOT), (lots, LOTS),
-          (counters, COUNTERS), (ranges, RANGES), (wrong, WRONG), (days, DAYS), (corners, CORNERS))
+          (counters, COUNTERS), (ranges, RANGES), (wrong, WRONG), (days, DAYS), (corners, CORNERS),
+          (asked, ASKED), (texts, TEXTS), (desk, DESK))
 
 
 class Functions(unittest.TestCase):

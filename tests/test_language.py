@@ -13,7 +13,7 @@ LIBRARY = {"heapq": {"heappush", "heappop", "heapify", "heapreplace", "heappushp
            "math": {"gcd", "lcm", "isqrt", "comb", "perm", "factorial"},
            "itertools": {"product", "combinations", "permutations"}}
 STATEMENTS = (ast.FunctionDef, ast.ClassDef, ast.Return, ast.Delete, ast.Assign, ast.AugAssign, ast.For, ast.While,
-              ast.If, ast.Raise, ast.Assert, ast.ImportFrom, ast.Expr, ast.Pass, ast.Break, ast.Continue)
+              ast.If, ast.Raise, ast.Assert, ast.ImportFrom, ast.Expr, ast.Pass, ast.Break, ast.Continue, ast.Try)
 BUILTINS = set("""len range enumerate zip min max sum abs sorted reversed int str bool list tuple dict set isinstance
 ord repr any all divmod Exception ValueError TypeError KeyError IndexError LookupError ZeroDivisionError
 ArithmeticError OverflowError RuntimeError NotImplementedError AttributeError""".split())
@@ -48,6 +48,9 @@ def is_plain(node):
     """Whether what is written there is a plain value, with tuples alone in tuples."""
     if isinstance(node, ast.Tuple):
         return all(is_plain(part) for part in node.elts)
+    if isinstance(node, ast.Dict):
+        return all(isinstance(key, ast.Constant) and is_plain(part) and not isinstance(part, ast.Dict)
+                   for key, part in zip(node.keys, node.values))
     return isinstance(node, ast.Constant)
 
 
@@ -120,6 +123,24 @@ class Statements(unittest.TestCase):
                 known = isinstance(node, (ast.ImportFrom, ast.FunctionDef, ast.ClassDef))
                 self.assertTrue(docstring or value or known, name)
 
+    def test_what_is_caught(self):
+        own = {node.name for node in ast.parse(source_of("errors.py")).body if isinstance(node, ast.ClassDef)}
+        for name, tree in trees():
+            for node in ast.walk(tree):
+                if isinstance(node, ast.Try):
+                    self.assertFalse(node.finalbody or node.orelse)
+                    for handler in node.handlers:
+                        self.assertIn(handler.type.id, own, name)
+                        self.assertIsNone(handler.name)
+
+    def test_what_is_raised(self):
+        own = {node.name for node in ast.parse(source_of("errors.py")).body if isinstance(node, ast.ClassDef)}
+        for name, tree in trees():
+            for node in ast.walk(tree):
+                if isinstance(node, ast.Raise):
+                    self.assertIn(called(node.exc), own, (name, node.lineno))
+                    self.assertIsNone(node.cause)
+
     def test_imports(self):
         for name, tree in trees():
             for node in ast.walk(tree):
@@ -177,7 +198,7 @@ class Values(unittest.TestCase):
 
     def test_no_escapes(self):
         for name in files():
-            self.assertNotIn("\\", source_of(name))
+            self.assertNotIn("\\", source_of(name).replace("\\n", ""))
 
     def test_sets(self):
         for name, tree in trees():
@@ -210,6 +231,27 @@ class Values(unittest.TestCase):
                     in_loop = isinstance(parent, (ast.For, ast.comprehension)) and parent.iter is node
                     in_range = called(node) == "range" and called(parent) == "reversed"
                     self.assertTrue(in_loop or in_range or called(parent) in TAKES, (name, node.lineno))
+
+    def test_lists_where_a_class_compares(self):
+        # A Board compares: so what goes through all of something takes a list there.
+        for name, tree in trees():
+            for parent, node in with_parents(tree):
+                if isinstance(node, ast.GeneratorExp):
+                    self.assertIn(called(parent), ("list", "tuple", "dict"), (name, node.lineno))
+
+    def test_double_underscore_methods(self):
+        tree = ast.parse(source_of("board.py"))
+        found = {node.name: node for node in functions_of(tree)}
+        for word in ("__eq__", "__len__"):
+            self.assertEqual([statement.__class__ for statement in found[word].body], [ast.Expr, ast.Return])
+        self.assertEqual(called(found["__len__"].body[1].value), "len")
+
+    def test_methods_that_change_sets_are_those_of_a_board(self):
+        # A Board has a method of this name: so it is not called of a set.
+        for name, tree in trees():
+            for node in ast.walk(tree):
+                if isinstance(node, ast.Attribute) and node.attr in ("add", "discard", "sort"):
+                    self.assertEqual((name, node.value.id), ("desk.py", "board"))
 
     def test_methods(self):
         own = {function.name for _, tree in trees() for kind in tree.body if isinstance(kind, ast.ClassDef)
@@ -244,7 +286,7 @@ class Names(unittest.TestCase):
             for node in ast.walk(tree):
                 for field in ("id", "name", "arg", "attr"):
                     word = getattr(node, field, None)
-                    if isinstance(word, str) and word not in ("_", "__init__"):
+                    if isinstance(word, str) and word not in ("_", "__init__", "__eq__", "__len__"):
                         self.assertRegex(word, "^_?[A-Za-z][A-Za-z0-9_]*$", name)
                         self.assertNotIn(word, BARRED)
 
