@@ -64,20 +64,17 @@ def is_parting_lots(graph, paths, thing):
 
 def answers_so(lot, answers):
     """Whether the LOT goes each of the PATHS so often as the answers say."""
-    return all([goes(lot, path) == number for path, number in plain(answers)])
+    return all([goes(lot, path) == number for path, number in answers])
 
 
 def lot_told(graph, counts, answers):
     """The LOT that has the COUNTS and answers so; raises Unfit if the PATHS do not tell all, then NoLot."""
-    paths = [path for path, _ in plain(answers)]
+    paths = [path for path, _ in answers]
     if not tells_all(graph, paths):
         raise Unfit()
     sums = list(counts) + [number for _, number in answers]
-    numbers = solved_rows(rows_along(graph, paths), sums, how_many_runs(graph))
-    if numbers is None or min(numbers) < 0:
-        raise NoLot()
-    lot = as_numbered(graph, numbers)
-    # Rows that are made of others must come to the right sums, too.
+    lot = as_numbered(graph, solved_rows(rows_along(graph, paths), sums, how_many_runs(graph)))
+    # No other one can be it; but this one may have lost numbers below 0, or come to other sums.
     if counts_of(graph, lot) != plain(counts) or not answers_so(lot, answers):
         raise NoLot()
     return lot

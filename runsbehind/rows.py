@@ -57,15 +57,9 @@ def left_open(rows, many):
 
 
 def solved_rows(rows, sums, many):
-    """The only numbers, one for each of so many places, that come to these sums with the rows, if any do.
+    """The only whole numbers, one for each of so many places, that can come to these sums with the rows.
 
-    None if they are no whole numbers. The rows must leave nothing open.
+    Whether they do must be seen. The rows must leave nothing open.
     """
     leads = cleared([row + [worth] for row, worth in zip(rows, sums)], many)
-    numbers = []
-    for place in range(many):
-        lead = leads[place]
-        if lead[many] // lead[place] * lead[place] != lead[many]:
-            return None
-        numbers.append(lead[many] // lead[place])
-    return numbers
+    return [leads[place][many] // leads[place][place] for place in range(many)]

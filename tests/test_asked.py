@@ -75,6 +75,19 @@ class Tell(unittest.TestCase):
                     self.assertIs(asked.is_parting_lots(graph, paths, pair[::-1]), True)
         self.assertEqual(len(both), 4)
 
+    def test_lots_that_are_parted_by_several_runs_at_once(self):
+        # Of many sets of long PATHS a few leave only such LOTS that some numbers in them must be 2.
+        twos = 0
+        for graph in (TWOFOLD, THIRTY, STAIRS):
+            chance = random.Random("several")
+            known = [path for path in oracle.all_paths(graph) if len(path) > 2]
+            for _ in range(150):
+                paths = tuple(sorted(chance.sample(known, asked.fewest_telling(graph) - 1)))
+                pair = asked.parting_lots(graph, paths)
+                self.assertTrue(is_parting(graph, paths, pair))
+                twos += max(number for lot in pair for _, number in lot) > 1
+        self.assertGreater(twos, 0)
+
     def test_no_two_lots_answer_alike(self):
         for graph, most in [(graph, 4) for graph in SMALL + [SKIP, FORK]] + [(DEEP, 3), (TWOFOLD, 2)]:
             table = oracle.lots_up_to(graph, most)
@@ -108,6 +121,8 @@ class Tell(unittest.TestCase):
                 self.assertIs(asked.is_telling_paths(graph, list(paths)), False)
                 self.assertIs(asked.is_telling_paths(graph, paths[::-1]), len(paths) < 2 and paths in telling)
                 self.assertIs(asked.is_telling_paths(graph, paths + paths[-1:]), fewest == 0)
+                more = tuple(sorted(set(paths + (known[0], known[-1]))))
+                self.assertIs(asked.is_telling_paths(graph, more), len(more) == fewest and more in telling)
 
     def test_fewest_of_great_ones(self):
         for graph in GREATS + GRAPHS_TOLD:

@@ -368,6 +368,9 @@ class Objects(unittest.TestCase):
         other.drop(("s", "m"))
         self.assertTrue(one == other)
         self.assertFalse(Board(SKIP) == Board(FORK))
+        # As many EDGES, the same counts, another GRAPH.
+        self.assertFalse(Board(SKIP) == Board((("s", "t"), ("s", "v"), ("v", "t"))))
+        self.assertTrue(Board(SKIP) != Board((("s", "t"), ("s", "v"), ("v", "t"))))
 
     def test_equal_to_nothing_else(self):
         board = Board(SKIP)
