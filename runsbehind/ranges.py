@@ -164,7 +164,7 @@ def counts_for(graph, ranges, path, number):
     """COUNTS within that some LOT has that goes the PATH just so often; None if there are none."""
     need_counts(graph, ranges)
     arcs = raised_arcs(graph, ranges, path, number)
-    if number < 0 or not all([low <= high for _, _, low, high in arcs]):
+    if not all([low <= high for _, _, low, high in arcs]):
         return None
     numbers = settled_arcs(arcs)
     if numbers is None:

@@ -1,6 +1,5 @@
 """Numbers that go round on arcs (begin, end, low, high): as much to each place as from it, each between its bounds."""
 
-from runsbehind.basics import plain
 from runsbehind.flows import most_flow, places_found
 from runsbehind.graphs import entry_of, exit_of
 
@@ -14,7 +13,7 @@ def round_arcs(graph, ranges):
     """The arcs of the EDGES with these bounds; COUNTS are what goes round if entry and exit are one place."""
     ends = (entry_of(graph), exit_of(graph))
     arcs = []
-    for edge, bounds in zip(plain(graph), plain(ranges)):
+    for edge, bounds in zip(graph, ranges):
         begin, end = [HOME if name in ends else name for name in edge]
         arcs.append((begin, end, bounds[0], bounds[1]))
     return arcs
@@ -119,14 +118,14 @@ def walks(moves, costs):
 
 def greatest_mean(tables, place):
     """The greatest cost for each push, as (cost, pushes), that the longest walk to the place has more than another."""
-    # The least one of these, of all places, is that of the ring with the least mean cost (so Karp found).
+    # The least one of these, of all places, is that of the ring with the least mean cost (so Karp found). Where a walk
+    # leads, each shorter one leads, too, that is left if its first pushes are not made.
     many = len(tables) - 1
     best = None
     for fewer in range(many):
-        if place in tables[fewer]:
-            cost, steps_more = tables[many][place][0] - tables[fewer][place][0], many - fewer
-            if best is None or cost * best[1] > best[0] * steps_more:
-                best = (cost, steps_more)
+        cost, pushes_more = tables[many][place][0] - tables[fewer][place][0], many - fewer
+        if best is None or cost * best[1] > best[0] * pushes_more:
+            best = (cost, pushes_more)
     return best
 
 

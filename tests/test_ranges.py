@@ -96,6 +96,11 @@ class Fit(unittest.TestCase):
         self.assertIs(ranges.is_range_bar(FORK, tight, bar), True)
         for thing in oracle.twisted(bar) + list(oracle.ODD_THINGS) + [((), "in"), (("s",), "out"), (("m", "t"), "in")]:
             self.assertIs(ranges.is_range_bar(FORK, tight, thing), oracle_bounds.is_bar(FORK, tight, thing), thing)
+        # Leading out, and with other words in the place of the one.
+        full = ((0, 1),) * 2 + ((4, 9),) * 2 + ((0, 9),) * 4
+        self.assertIs(ranges.is_range_bar(FORK, full, (("c", "d", "m"), "out")), True)
+        for word in ("", "on", "outin", "OUT", None, True, 1, ("out",), ["out"]):
+            self.assertIs(ranges.is_range_bar(FORK, full, (("c", "d", "m"), word)), False)
         for thing in oracle.ODD_THINGS:
             for other in ((thing, "in"), (("c", "m"), thing), ((thing,), "out")):
                 self.assertIs(ranges.is_range_bar(FORK, tight, other), oracle_bounds.is_bar(FORK, tight, other), other)
@@ -237,6 +242,29 @@ class Paths(unittest.TestCase):
                     if oracle_bounds.is_ranges(graph, raised):
                         self.assertTrue(oracle_bounds.is_bar(graph, raised, ranges.range_bar(graph, raised)))
                     self.check_many_times(graph, known, path, least)
+
+    def test_paths_that_come_to_a_bar_several_times(self):
+        # Long ways, low bounds of all kinds: the greatest number, sought by halves.
+        found = 0
+        for seed, graph in enumerate(([STAIRS, LADDER, TWOFOLD] + oracle.some_graphs("bars", 40)) * 6):
+            chance = random.Random(seed)
+            numbers = oracle.some_counts(graph, seed, 6, 6)
+            known = tuple((max(0, number - chance.choice((0, 1, 3, 9))), number + chance.choice((0, 1, 3, 9)))
+                          for number in numbers)
+            path = max(oracle.all_paths(graph), key=lambda path: (len(path), chance.random()))
+            low, high = 0, min(top for edge, (_, top) in zip(graph, known) if edge in oracle.edges_on(path))
+            found += len(path) > 4
+            while low < high:
+                middle = (low + high + 1) // 2
+                raised = tuple((max(least, middle) if edge in oracle.edges_on(path) else least, top)
+                               for edge, (least, top) in zip(graph, known))
+                low, high = (middle, high) if ranges.can_fit(graph, raised) else (low, middle - 1)
+            self.assertEqual(ranges.path_range(graph, known, path)[1], low)
+        self.assertGreater(found, 20)
+        # Into b and d together come 10 at least, and what the way brings once more; 14 at most go out of them.
+        twice = (("b", "c"), ("b", "d"), ("c", "d"), ("c", "t"), ("d", "t"), ("s", "b"))
+        known = ((0, 7), (0, 99), (0, 9), (0, 99), (0, 7), (10, 20))
+        self.assertEqual(ranges.path_range(twice, known, ("s", "b", "c", "d", "t")), (0, 4))
 
     def check_many_times(self, graph, known, path, least):
         """Bounds so many times as great: so is the least sum, as no least one is between whole numbers."""

@@ -129,6 +129,10 @@ class Sets(unittest.TestCase):
         self.assertIs(wrong.is_wrong_dam(FORK, NOTED, some, dam), True)
         for thing in oracle.twisted(dam) + list(oracle.ODD_THINGS) + [((), "in"), (("s",), "out"), (("d", "t"), "in")]:
             self.assertIs(wrong.is_wrong_dam(FORK, NOTED, some, thing), oracle_bounds.is_dam(FORK, NOTED, some, thing))
+        # Leading out, and with other words in the place of the one.
+        self.assertIs(wrong.is_wrong_dam(FORK, NOTED, (("c", "t"),), (("m",), "out")), True)
+        for word in ("", "on", "outin", "OUT", None, True, 1, ("out",), ["out"]):
+            self.assertIs(wrong.is_wrong_dam(FORK, NOTED, (("c", "t"),), (("m",), word)), False)
         for thing in oracle.ODD_THINGS:
             for other in ((thing, "in"), (("d",), thing)):
                 expected = oracle_bounds.is_dam(FORK, NOTED, some, other)
