@@ -222,9 +222,9 @@ def widths_left(graph, counts, path):
         others = spans[:at] + spans[at + 1:]
         most = min([span[1] for span in others], default=high)
         base = sum([span[0] for span in others]) - inner
-        # The width grows and falls evenly between these numbers: so it is greatest at one of them.
-        tried = [low, high] + [number for number in (most, -base) if low <= number <= high]
-        widths.append(max([min(number, most) - max(0, number + base) for number in tried]))
+        # Up to what the others have at the most the width never falls as the number grows; above that it never grows.
+        number = max(low, min(most, high))
+        widths.append(min(number, most) - max(0, number + base))
     return tuple(widths)
 
 

@@ -79,6 +79,13 @@ class Forms(unittest.TestCase):
                     for other in (known[:at] + (known[at] + 1,) + known[at + 1:], known[:at] + known[at + 1:]):
                         self.assertIs(corners.is_corners(graph, numbers, other), other in tables)
 
+    def test_sums_of_one_side_alone_are_not_enough(self):
+        for known, expected in (((5, 2, 1, 2), True), ((5, 3, 1, 1), False), ((5, 2, 2, 1), False), ((6, 2, 0, 2), False),
+                                ((8, -1, -2, 5), False), ((7, 0, -1, 4), False), ((2, 5, 4, -1), False)):
+            self.assertIs(corners.is_corners(FORK, SEVEN, known + (6, 4, 7, 3)), expected)
+        for rest in ((6, 4, 7, 4), (5, 4, 7, 3), (7, 3, 7, 3), (6, 4, 3, 7)):
+            self.assertIs(corners.is_corners(FORK, SEVEN, (5, 2, 1, 2) + rest), False)
+
     def test_is_corners_of_things_of_all_kinds(self):
         for graph, numbers, known in ((FORK, SEVEN, (5, 2, 1, 2, 6, 4, 7, 3)), (SKIP, (2, 1, 1), (1,)),
                                       (ONE_EDGE, (5,), ()), (FORK, (0,) * 8, (0,) * 8)):
@@ -102,6 +109,8 @@ class All(unittest.TestCase):
             fitting = [some for some in itertools.product(range(3), repeat=len(oracle_bounds.all_corners(graph)))
                        if oracle_bounds.is_corners(graph, numbers, some)]
             self.assertEqual(fitting, sorted(oracle_bounds.by_corners(graph, oracle.all_lots(graph, numbers))))
+            for some in list(itertools.product(range(3), repeat=len(fitting[0])))[::17] + fitting:
+                self.assertIs(corners.is_corners(graph, numbers, some), some in fitting)
             self.assertEqual(corners.how_many_corners(graph, numbers), len(fitting))
             self.assertEqual(corners.least_corners(graph, numbers), fitting[0])
             self.assertEqual(corners.greatest_corners(graph, numbers), fitting[-1])
@@ -231,6 +240,17 @@ class With(unittest.TestCase):
             expected = (oracle.is_lot(TWOFOLD, thing) and oracle.counts_of(TWOFOLD, thing) == PASSED
                         and oracle_bounds.corners_of(TWOFOLD, thing) == TURNS and oracle.goes(thing, LONG) == 3)
             self.assertIs(corners.is_lot_with(TWOFOLD, PASSED, TURNS, LONG, 3, thing), expected, thing)
+        # LOTS that go the PATH so often, but not all corners.
+        lots = oracle.all_lots(TWOFOLD, (2, 1, 2, 1, 2, 1, 2, 1, 2, 1, 2, 1))
+        numbers, known = oracle.counts_of(TWOFOLD, lots[0]), oracle_bounds.corners_of(TWOFOLD, lots[0])
+        others = 0
+        for path in (LONG, ("a", "m", "c"), ("s", "b", "m", "d")):
+            for lot in lots:
+                alike = oracle_bounds.corners_of(TWOFOLD, lot) == known
+                times = oracle.goes(lot, path)
+                others += not alike
+                self.assertIs(corners.is_lot_with(TWOFOLD, numbers, known, path, times, lot), alike)
+        self.assertGreater(others, 3)
         for lot in oracle.all_lots(FORK, (2, 1, 2, 1, 2, 1, 2, 1)):
             for known in ((1, 1, 1, 0, 2, 1, 2, 1), (2, 0, 0, 1, 2, 1, 2, 1)):
                 expected = oracle_bounds.corners_of(FORK, lot) == known

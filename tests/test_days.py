@@ -256,7 +256,8 @@ class Splits(unittest.TestCase):
 
     def test_things_of_all_kinds(self):
         pair = ((4, 0, 4, 0, 4, 0, 4, 0), (3, 3, 2, 4, 2, 4, 3, 3))
-        for thing in [pair, pair[::-1], (GOOD,), pair + ((0,) * 8,)] + oracle.twisted(pair) + list(oracle.ODD_THINGS):
+        apart = [(pair[0], (0,) * 8), ((0,) * 8, pair[0]), (pair[0], (0, 1, 0, 1, 0, 1, 0, 1))]
+        for thing in [pair, pair[::-1], (GOOD,), pair + ((0,) * 8,)] + apart + oracle.twisted(pair) + list(oracle.ODD_THINGS):
             expected = self.is_split(FORK, GOOD, PATH, 4, thing)
             self.assertIs(days.is_day_split(FORK, GOOD, PATH, 4, thing), expected, thing)
 
